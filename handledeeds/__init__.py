@@ -1,0 +1,1 @@
+"""Handledeeds: programs that ask for deeds, and answerers that go on with them."""
