@@ -23,3 +23,24 @@ TERM_PARTS = 120
 TERM_DEPTH = 20
 
 TERM_CLAUSES = 4
+
+KIND_PARTS = 40
+
+KIND_DEPTH = 8
+
+KIND_LABELS = 8
+
+TOP_OPEN = 999
+
+SHEET_DEEDS = 6
+
+SHEET_DEPTH = 4
+
+# Numbers are told by the rest by this one.
+MODULUS = 997
+
+PAIR_PARTS = 60
+
+TREE_PARTS = 300
+
+TREE_DEPTH = 40

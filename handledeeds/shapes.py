@@ -67,6 +67,13 @@ def clause_keys(clause):
     return name_keys(clause[2:4] if clause[1] == "many" else clause[2:3])
 
 
+def clause_deeds(term):
+    """The list of the deeds of an answerer's clauses; of any other term none."""
+    if term[0] == "handle" or term[0] == "under":
+        return [clause[0] for clause in term[4]]
+    return []
+
+
 def bindings(term):
     """For each TERM straight within a term, the tuple of the keys that the term binds in it."""
     word = term[0]
@@ -80,6 +87,16 @@ def bindings(term):
         around = (("answerer", term[1]),) if word == "under" else ()
         return [around, name_keys(term[3][:1])] + [clause_keys(clause) for clause in term[4]]
     return [()] * len(inner(term))
+
+
+def with_keys(around, keys, things):
+    """A dict by keys with these things for these keys, which hide like ones further out."""
+    if not keys:
+        return around
+    told = {key: around[key] for key in around}
+    for key, thing in zip(keys, things):
+        told[key] = thing
+    return told
 
 
 def uses(term):

@@ -48,7 +48,7 @@ class Begun:
 
     def __init__(self, word):
         self.word = word
-        self.told = []
+        self.read = []
         # Turned round: what is wanted next stands last.
         self.wants = list(TEXTS[word][::-1])
         self.deed = ""
@@ -64,12 +64,12 @@ class Begun:
             return False
         if wanted == "deed":
             return self.deed < word <= HIGHEST_DEEDS[self.wants.count("how")]
-        return wanted == "name" or word != self.told[-1]
+        return wanted == "name" or word != self.read[-1]
 
     def take(self, word):
         """Take a word that may stand here."""
         wanted = self.wants.pop()
-        self.told.append(word)
+        self.read.append(word)
         if wanted == "count":
             self.wants.extend(["how"] * int(word))
         elif wanted == "how":
@@ -80,17 +80,17 @@ class Begun:
     def take_term(self, term):
         """Take a whole TERM, where one is wanted next."""
         self.wants.pop()
-        self.told.append(term)
+        self.read.append(term)
 
     def term(self):
         """The TERM, of which nothing is wanted any more."""
         if self.word in OPS:
-            return ("op", self.word, *self.told)
+            return ("op", self.word, *self.read)
         if self.word in WAYS:
-            return ("handle", self.word, *answerer_fields(self.told))
+            return ("handle", self.word, *answerer_fields(self.read))
         if self.word == "under":
-            return ("under", self.told[0], *answerer_fields(self.told[1:]))
-        return (self.word, *self.told)
+            return ("under", self.read[0], *answerer_fields(self.read[1:]))
+        return (self.word, *self.read)
 
 
 def answerer_fields(told):

@@ -13,6 +13,7 @@ from handledeeds.shapes import bones
 from handledeeds.shapes import inner
 from handledeeds.shapes import rebuilt
 from handledeeds.shapes import uses
+from handledeeds.shapes import with_keys
 
 
 def is_term(thing):
@@ -148,7 +149,8 @@ def are_like(term, other):
         lefts = list(zip(inner(left), bindings(left)))
         rights = list(zip(inner(right), bindings(right)))
         for (part, keys), (like, like_keys) in zip(lefts, rights):
-            waiting.append((part, like, marked(left_marks, keys, binders), marked(right_marks, like_keys, binders)))
+            marks = list(range(binders, binders + len(keys)))
+            waiting.append((part, like, with_keys(left_marks, keys, marks), with_keys(right_marks, like_keys, marks)))
             binders += len(keys)
     return True
 
@@ -156,13 +158,3 @@ def are_like(term, other):
 def marks_of(part, marks):
     """What the part itself asks for: marks of what is bound, keys of what stands for nothing."""
     return [marks.get(key, key) for key in uses(part)]
-
-
-def marked(marks, keys, first):
-    """The marks with these keys bound further in, marked by the numbers from first on."""
-    if not keys:
-        return marks
-    told = {key: marks[key] for key in marks}
-    for at, key in enumerate(keys):
-        told[key] = first + at
-    return told

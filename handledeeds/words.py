@@ -11,11 +11,12 @@ def is_name(thing):
     return thing.isascii() and thing.isalpha() and thing.islower() and thing not in KEYWORDS
 
 
+def is_plain(word):
+    """Whether a word is a number, however long, in plain figures."""
+    return word.isascii() and word.isdigit() and (word == "0" or not word.startswith("0"))
+
+
 def is_figures(word, most):
     """Whether a word is a number up to most in plain figures."""
-    if not word.isascii() or not word.isdigit():
-        return False
     # Measured first: Python itself refuses to read figures of some thousand signs.
-    if len(word) > len(str(most)) or word != "0" and word.startswith("0"):
-        return False
-    return int(word) <= most
+    return len(word) <= len(str(most)) and is_plain(word) and int(word) <= most

@@ -53,9 +53,20 @@ FILES = read_files()
 TREES = {name: ast.parse(text) for name, text in FILES.items()}
 
 
+NODES = [(name, node) for name, tree in TREES.items() for node in ast.walk(tree)]
+
+
 def nodes(*kinds):
     """The pairs (file's name, node) of all nodes of these kinds."""
-    return [(name, node) for name, tree in TREES.items() for node in ast.walk(tree) if isinstance(node, kinds)]
+    return [(name, node) for name, node in NODES if isinstance(node, kinds)]
+
+
+def is_plain_value(node, functions):
+    """Whether a value may stand at module level: literals, and in dicts functions of the file."""
+    if isinstance(node, ast.Dict) and all(isinstance(value, ast.Name) for value in node.values):
+        return all(value.id in functions for value in node.values)
+    ast.literal_eval(node)
+    return True
 
 
 def bound_names():
@@ -121,12 +132,67 @@ class LanguageTest(unittest.TestCase):
         kinds = (ast.ImportFrom, ast.FunctionDef, ast.ClassDef, ast.Assign)
         for name, tree in TREES.items():
             self.assertTrue(ast.get_docstring(tree), name)
+            functions = []
             for node in tree.body[1:]:
                 self.assertIsInstance(node, kinds, name)
+                if isinstance(node, ast.FunctionDef):
+                    functions.append(node.name)
                 if isinstance(node, ast.Assign):
-                    ast.literal_eval(node.value)
+                    self.assertTrue(is_plain_value(node.value, functions), name)
             words = defined(name) + [word for file, _, word in imported() if file == name]
             self.assertEqual(len(words), len(set(words)), name)
+
+    def test_l4_l5_functions_and_classes_are_plain(self):
+        homes = list(TREES.values()) + [around for _, around in nodes(ast.ClassDef)]
+        outer = [node for home in homes for node in home.body]
+        for name, node in nodes(ast.FunctionDef, ast.ClassDef):
+            self.assertEqual(node.decorator_list, [], (name, node.name))
+            self.assertIn(node, outer, (name, node.name))
+        for name, node in nodes(ast.arguments):
+            for default in node.defaults + [told for told in node.kw_defaults if told is not None]:
+                self.assertIsInstance(default, (ast.Constant, ast.Name, ast.Tuple), name)
+        self.assertEqual(nodes(ast.Lambda, ast.GeneratorExp, ast.Yield, ast.YieldFrom, ast.NamedExpr, ast.Match), [])
+
+    def test_l7_l27_stars_and_powers(self):
+        for name, node in nodes(ast.Call):
+            for at, arg in enumerate(node.args):
+                if isinstance(arg, ast.Starred):
+                    self.assertIsInstance(arg.value, (ast.Name, ast.Attribute), name)
+                    self.assertEqual(at, len(node.args) - 1, name)
+            self.assertTrue(all(told.arg is not None for told in node.keywords), name)
+        for name, node in nodes(ast.BinOp):
+            if isinstance(node.op, ast.Pow):
+                self.assertIsInstance(node.right, ast.Constant, name)
+
+    def test_l18_l26_attributes(self):
+        methods = set([node.name for _, around in nodes(ast.ClassDef) for node in around.body if isinstance(node, ast.FunctionDef)])
+        stored = set([node.attr for _, node in nodes(ast.Attribute) if isinstance(node.ctx, ast.Store)])
+        self.assertEqual(methods & stored, set())
+        self.assertEqual(stored & (METHODS - {"count", "index", "title", "find", "lower", "upper", "split", "strip", "copy"}), set())
+        for name, node in nodes(ast.Attribute):
+            self.assertIn(node.attr, methods | stored | METHODS, name)
+        for name, around in nodes(ast.ClassDef):
+            told = [node.name for node in around.body if isinstance(node, ast.FunctionDef)]
+            self.assertEqual(len(told), len(set(told)), (name, around.name))
+
+    def test_l19_errors(self):
+        own = defined("errors.py")
+        for name, node in nodes(ast.ExceptHandler):
+            self.assertIn(node.type.id, own, name)
+        for name, node in nodes(ast.Raise):
+            self.assertIn(node.exc.func.id, own, name)
+
+    def test_l22_l23_builtins(self):
+        once = ("zip", "enumerate", "reversed", "range")
+        for name, node in nodes(ast.Assign, ast.Return):
+            if isinstance(node.value, ast.Call):
+                word = node.value.func.id if isinstance(node.value.func, ast.Name) else node.value.func.attr
+                self.assertNotIn(word, (*once, "items", "keys", "values"), name)
+        for name, node in nodes(ast.Call):
+            if isinstance(node.func, ast.Name) and node.func.id in BUILTINS:
+                self.assertLessEqual(set([told.arg for told in node.keywords]), {"key", "reverse", "default", "start", "strict"}, name)
+            elif isinstance(node.func, ast.Attribute) and node.func.attr in METHODS:
+                self.assertEqual(node.keywords, [], name)
 
     def test_l6_l7_statements_and_values(self):
         self.assertEqual(nodes(ast.AsyncFunctionDef, ast.Await, ast.TryStar, ast.Div, ast.Set, ast.Global), [])

@@ -1,0 +1,259 @@
+"""The rules of kinds, PLACE by PLACE.
+
+Of whom it's asked whether two kinds are the same is a judge: one that looks for kinds finds what makes
+them so, one that's shown kinds tells whether they are. A judge refuses with Unlike. What stands
+around is a dict by the keys of bindings: of a name the triple (KIND, numbers of open kinds, of open
+tails that may be something else at each use), of an answerer its LABELs by deeds.
+"""
+
+from handledeeds.kinds import opens_of
+from handledeeds.labels import joined
+from handledeeds.labels import written_label
+from handledeeds.shapes import bindings
+from handledeeds.shapes import clause_deeds
+from handledeeds.shapes import inner
+from handledeeds.shapes import with_keys
+
+
+class Node:
+    """A PLACE of a term, with its KIND, its ROSTER, and the Nodes of the parts come to so far."""
+
+    def __init__(self, place, form, around, kind, roster):
+        self.place = place
+        self.form = form
+        self.around = around
+        self.kind = kind
+        self.roster = roster
+        self.within = []
+
+
+def walk(judge, top):
+    """Have the judge enter each PLACE ahead of those within it, and leave it behind them."""
+    path = [top]
+    while path:
+        node = path[-1]
+        parts = inner(node.form)
+        at = len(node.within)
+        if at < len(parts):
+            part = judge.enter((*node.place, at), parts[at], part_around(judge, node, at), part_roster(node, at))
+            node.within.append(part)
+            path.append(part)
+        else:
+            judge.leave(node)
+            path.pop()
+
+
+def known_around(known):
+    """What stands around a whole term: names of which all that's open may be something else."""
+    return {("name", name): (kind, *opens_of(kind)) for name, kind in known}
+
+
+def part_around(judge, node, at):
+    """What stands around a part of a node, the parts ahead of it being left."""
+    keys = bindings(node.form)[at]
+    if not keys:
+        return node.around
+    return with_keys(node.around, keys, meanings(judge, node, at))
+
+
+def meanings(judge, node, at):
+    """What the keys that a node binds in a part of it stand for."""
+    word = node.form[0]
+    if word == "fun":
+        return [fixed(node.kind[1])]
+    if word == "rec":
+        return [fixed(node.kind), fixed(node.kind[1])]
+    if word == "let":
+        return [let_meaning(judge, node)]
+    # Answerers are left.
+    if at == 0:
+        return [dict(zip(clause_deeds(node.form), clause_labels(node)))]
+    if at == 1:
+        return [fixed(node.within[0].kind)]
+    handed, answered = judge.deed_kinds[node.form[4][at - 2][0]]
+    told_by = node.within[0] if node.form[1] == "shallow" else node
+    return [fixed(handed), fixed(("fun", answered, told_by.roster, told_by.kind))]
+
+
+def fixed(kind):
+    """What a name of a KIND stands for, of which nothing may be something else."""
+    return (kind, [], [])
+
+
+def let_meaning(judge, node):
+    """What the name of a let stands for."""
+    made = node.within[0]
+    if made.form[0] not in ("num", "name", "fun", "rec"):
+        return fixed(made.kind)
+    kind = judge.told(made.kind)
+    kinds, tails = opens_of(kind)
+    held_kinds, held_tails = held(judge, node)
+    return (kind, [n for n in kinds if n not in held_kinds], [n for n in tails if n not in held_tails])
+
+
+def held(judge, node):
+    """The pair of dicts of what's open in the ROSTER of a node and around it, and can't be something else."""
+    kinds, tails = judge.opens("number", node.roster)
+    kinds = {n: True for n in kinds}
+    tails = {n: True for n in tails}
+    for (sort, _), meaning in node.around.items():
+        if sort == "name":
+            open_kinds, open_tails = judge.opens(meaning[0], ((), None))
+            kinds.update({n: True for n in open_kinds if n not in meaning[1]})
+            tails.update({n: True for n in open_tails if n not in meaning[2]})
+    return (kinds, tails)
+
+
+def part_roster(node, at):
+    """The ROSTER of a part of a node; None where that's a new one."""
+    word = node.form[0]
+    if word == "fun" or word == "rec":
+        return node.kind[2]
+    if word == "past" or word == "pastof":
+        return None
+    if word == "ward" and at == 1:
+        return ((), None)
+    if (word == "handle" or word == "under") and at == 0:
+        return with_more(node.roster, clause_labels(node))
+    return node.roster
+
+
+def with_more(roster, labels):
+    """The ROSTER with these labels more."""
+    return (joined(roster[0], labels), roster[1])
+
+
+def clause_labels(node):
+    """The LABELs that T of an answerer may ask for more."""
+    deeds = tuple(clause_deeds(node.form))
+    if node.form[0] == "handle":
+        return deeds
+    return tuple([written_label(node.place, deed) for deed in deeds])
+
+
+# The rules of a PLACE itself, its parts being left: what's asked of the judge, in this order.
+
+
+def num_rule(judge, node):
+    judge.same(node.kind, "number")
+
+
+def name_rule(judge, node):
+    judge.uses(node.kind, node.around[("name", node.form[1])])
+
+
+def fun_rule(judge, node):
+    judge.same(node.kind[3], node.within[0].kind)
+
+
+def call_rule(judge, node):
+    called, handed = node.within
+    judge.same(called.kind, ("fun", handed.kind, node.roster, node.kind))
+
+
+def let_rule(judge, node):
+    judge.same(node.kind, node.within[1].kind)
+
+
+def op_rule(judge, node):
+    for each in [*node.within, node]:
+        judge.same(each.kind, "number")
+
+
+def if_rule(judge, node):
+    judge.same(node.within[0].kind, "number")
+    for part in node.within[1:]:
+        judge.same(node.kind, part.kind)
+
+
+def two_rule(judge, node):
+    first, second = node.within
+    judge.same(node.kind, ("pair", first.kind, second.kind))
+
+
+def side_rule(judge, node):
+    judge.has_side(node.within[0].kind, node.form[0], node.kind)
+
+
+def ask_rule(judge, node):
+    asked(judge, node, node.form[1], node.form[1])
+
+
+def askof_rule(judge, node):
+    _, called, deed, _ = node.form
+    asked(judge, node, deed, node.around[("answerer", called)][deed])
+
+
+def asked(judge, node, deed, label):
+    """The rule of a deed that's asked, as this LABEL."""
+    handed, answered = judge.deed_kinds[deed]
+    judge.same(node.within[0].kind, handed)
+    judge.same(node.kind, answered)
+    judge.has_label(node.roster, label)
+
+
+def past_rule(judge, node):
+    passed(judge, node, (node.form[1],))
+
+
+def pastof_rule(judge, node):
+    labels = node.around[("answerer", node.form[1])]
+    passed(judge, node, tuple(list(labels.values())))
+
+
+def passed(judge, node, labels):
+    """The rule of a term whose asks of these LABELs pass an answerer."""
+    part = node.within[0]
+    judge.same(node.kind, part.kind)
+    judge.same_roster(node.roster, with_more(part.roster, labels))
+
+
+def answerer_rule(judge, node):
+    judge.same(node.kind, node.within[1].kind)
+    for clause, part in zip(node.form[4], node.within[2:]):
+        judge.same(part.kind, judge.deed_kinds[clause[0]][1] if clause[1] == "quick" else node.kind)
+
+
+def ward_rule(judge, node):
+    guarded, cleaning = node.within
+    judge.same(node.kind, guarded.kind)
+    judge.same(cleaning.kind, "number")
+
+
+RULES = {
+    "num": num_rule,
+    "name": name_rule,
+    "fun": fun_rule,
+    "rec": fun_rule,
+    "call": call_rule,
+    "let": let_rule,
+    "op": op_rule,
+    "if": if_rule,
+    "two": two_rule,
+    "first": side_rule,
+    "second": side_rule,
+    "ask": ask_rule,
+    "askof": askof_rule,
+    "past": past_rule,
+    "pastof": pastof_rule,
+    "handle": answerer_rule,
+    "under": answerer_rule,
+    "ward": ward_rule,
+}
+
+
+def keep_rule(judge, node):
+    """Have the judge keep the rule of a node that is left, all parts of it being left; Unlike."""
+    rule = RULES[node.form[0]]
+    rule(judge, node)
+
+
+def let_out(judge, node):
+    """Whether LABELs of an under stand where they mayn't: around it, in its KIND or in its ROSTER."""
+    if node.form[0] != "under":
+        return False
+    labels = judge.labels(node.kind, node.roster)
+    for (sort, _), meaning in node.around.items():
+        if sort == "name":
+            labels.extend(judge.labels(meaning[0], ((), None)))
+    return any([label in labels for label in clause_labels(node)])
