@@ -2,10 +2,18 @@
 
 import unittest
 
-from handledeeds.errors import BadText, NoPlace
+from handledeeds.errors import BadText, Clash, NoAnswerer, NoName, NoPlace
+from handledeeds.kindcheck import label_of, shows_kinds
+from handledeeds.kindpapers import paper_of
+from handledeeds.kinds import comes_of, is_kind, is_roster, is_sheet, opens_of, put_in, put_in_roster, settled
+from handledeeds.kindtext import kind_in, kind_text, roster_text
+from handledeeds.look import kind_of, look
+from handledeeds.rows import rows_of
 from handledeeds.terms import answerers_free, are_like, deeds_of, deep_of, is_term, is_value, names_free, part_at
 from handledeeds.terms import parts_of, places_of, put_at
 from handledeeds.termtext import term_in, text_of
+from handledeeds.treerun import told_of
+from tests.chance import SHEET
 from tests.samples import DEEP, ONE, TERMS, UNDER, X, frozen
 
 # What is asked: the function, what it's handed, and by which names.
@@ -25,13 +33,38 @@ for at in ((0,), (1, 0), (4,), (2, 9), (-1,), (0, 0, 0)):
     ASKED.append((put_at, (DEEP, at, X), ("term", "place", "other")))
 for words in ("", "7 7", "rec f f 7", "deep 7 x 7 1 many get x x 7", "first"):
     ASKED.append((term_in, (words,), ("text",)))
+for kind in ("number", ("any", 3), ("pair", ("any", 1), ("any", 0)), ("fun", ("any", 2), (("get",), 4), ("fun", "number", ((), 4), ("any", 2)))):
+    for function in (opens_of, kind_text):
+        ASKED.append((function, (kind,), ("kind",)))
+    ASKED.append((is_kind, (kind,), ("thing",)))
+    ASKED.append((is_sheet, ((("get", kind, kind),),), ("thing",)))
+    ASKED.append((put_in, (kind, {2: ("pair", ("any", 2), "number")}, {4: (("a", "z"), 4)}), ("kind", "kinds", "tails")))
+    ASKED.append((settled, (kind, (("get",), 4)), ("kind", "roster")))
+    ASKED.append((comes_of, ((kind, ((), 4)), (kind, (("get",), None))), ("first", "second")))
+    ASKED.append((kind_in, (kind_text(kind),), ("text",)))
+for roster in (((), None), ((), 0), ((":get", "get", "get"), 4)):
+    ASKED.append((is_roster, (roster,), ("thing",)))
+    ASKED.append((roster_text, (roster,), ("roster",)))
+    ASKED.append((put_in_roster, (roster, {4: "number"}, {4: (("a", "z"), 4)}), ("roster", "kinds", "tails")))
+for thing in (None, True, [], ["pair", "number", "number"], ("pair", ["any", 0], "number"), ([], 0), [("get", "number", "number")]):
+    for function in (is_kind, is_roster, is_sheet):
+        ASKED.append((function, (thing,), ("thing",)))
+for words in ("", "number number", "fun number [ put get ] number"):
+    ASKED.append((kind_in, (words,), ("text",)))
+for sample in [*TERMS, term_in("let i fun x x two call i ask get 1 i"), term_in("under h fun x askof h get x y y 1 quick get u u")]:
+    for function in (look, kind_of, paper_of):
+        ASKED.append((function, (sample, SHEET), ("term", "sheet")))
+    ASKED.append((shows_kinds, (sample, SHEET, [((), "number", ((), 0))]), ("term", "sheet", "thing")))
+    for function in (rows_of, told_of):
+        ASKED.append((function, (sample,), ("term",)))
+ASKED.append((label_of, ((0, 2), "get"), ("place", "deed")))
 
 
 def asked(function, *handed, **named):
     """What is told, or with what it's refused."""
     try:
         return ("told", function(*handed, **named))
-    except (BadText, NoPlace) as error:
+    except (BadText, Clash, NoAnswerer, NoName, NoPlace) as error:
         return (error.__class__.__name__, sorted(vars(error).items()))
 
 
@@ -63,6 +96,16 @@ class PromisesTest(unittest.TestCase):
                 self.assertEqual(function(*handed), again)
                 self.assertIsNot(function(*handed), function(*handed))
 
+    def test_told_lists_and_dicts_within_what_is_told_too(self):
+        for function, handed, _ in ASKED:
+            word, told = asked(function, *handed)
+            if word == "told" and isinstance(told, tuple):
+                before = frozen(told)
+                for thing in told:
+                    if isinstance(thing, (list, dict)):
+                        thing.clear()
+                self.assertEqual(frozen(function(*handed)), before, (function, handed))
+
     def test_a_list_that_is_changed_behind_is_not_seen(self):
         fields = ["two", ["num", 1], ("num", 1)]
         thing = (fields[0], fields[1], fields[2])
@@ -72,9 +115,11 @@ class PromisesTest(unittest.TestCase):
         self.assertIs(is_term(tuple([fields[0], tuple(fields[1][:2]), fields[2]])), True)
 
     def test_so_is_told_by_true_or_false(self):
-        for function in (is_term, is_value):
+        for function in (is_term, is_value, is_kind, is_roster, is_sheet):
             for term in TERMS:
                 self.assertIs(type(function(term)), bool)
+        for term in TERMS:
+            self.assertIs(type(shows_kinds(term, SHEET, [])), bool)
         for term in TERMS:
             self.assertIs(type(are_like(term, DEEP)), bool)
 

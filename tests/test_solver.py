@@ -188,6 +188,14 @@ class SameRosterTest(unittest.TestCase):
         self.assertEqual(solver.told_roster(r), (("put", "say"), None))
         self.assertEqual(solver.told_roster(q), (("a", "get", "say"), None))
 
+    def test_an_open_one_and_a_closed_one(self):
+        for labels in ((), ("get",)):
+            solver, r, q = made(0, 2)
+            solver.same_roster(r, (labels, None))
+            solver.same_roster((labels, None), q)
+            self.assertEqual([solver.told_roster(one) for one in (r, q)], [(labels, None)] * 2)
+            solver.same_roster(r, q)
+
     def test_each_label_as_often(self):
         solver, r = made(0, 1)
         solver.same_roster((("get",), r[1]), (("get", "get", "get"), None))

@@ -1,0 +1,299 @@
+"""The steps of a run of a tree."""
+
+from handledeeds.limits import MODULUS
+from handledeeds.limits import PAIR_PARTS
+from handledeeds.shapes import clause_deeds
+from handledeeds.shapes import clause_keys
+from handledeeds.shapes import inner
+from handledeeds.shapes import name_keys
+from handledeeds.shapes import with_keys
+from handledeeds.treestate import GOING
+from handledeeds.treestate import LONG
+from handledeeds.values import pair_of
+from handledeeds.values import parts_of_value
+from handledeeds.values import told_value
+
+# Of these both parts are come to ahead of their step.
+OF_TWO = ("call", "op", "two")
+
+
+def find_step(state):
+    """Come to the PLACE of the next step; where none can be, the state tells it."""
+    while state.status == GOING:
+        if state.now[0] == "term":
+            read(state, state.now[1], state.now[2])
+        elif not state.frames:
+            state.status = ("done", told_value(state.now[1]))
+        elif not carried(state, state.frames[-1], state.now[1]):
+            look_ahead(state, state.frames[-1], state.now[1])
+            return
+
+
+def do_step(state):
+    """Do the step at the PLACE that's come to."""
+    frame = state.frames[-1]
+    step = STEP_BY_WORD[frame[0]]
+    step(state, frame, state.now[1])
+
+
+def look_ahead(state, frame, value):
+    """Where the step of a frame can't be done, the state tells it."""
+    if frame[0] in TROUBLE_BY_WORD:
+        trouble = TROUBLE_BY_WORD[frame[0]]
+        state.status = trouble(state, frame, value)
+
+
+def read(state, term, scope):
+    """Go on from a term that's come to: to its VALUE, or into it."""
+    if term[0] == "num":
+        state.tell(term)
+    elif term[0] == "name":
+        state.tell(scope[("name", term[1])])
+    elif term[0] == "fun" or term[0] == "rec":
+        state.tell(("fun", term, scope))
+    else:
+        state.come_to(term, scope)
+
+
+def carried(state, frame, value):
+    """Whether a VALUE that's told to a frame asks for no step yet: it's carried on then."""
+    if frame[0] not in OF_TWO:
+        return False
+    word, term, scope, told = frame
+    if told == ():
+        state.frames[-1] = (word, term, scope, (value,))
+        state.do_term(inner(term)[1], scope)
+        return True
+    if word != "two" or too_large(told[0], value):
+        return False
+    state.leave(pair_of(told[0], value))
+    return True
+
+
+def too_large(first, second):
+    """Whether the pair of two VALUEs would have too many parts."""
+    return 1 + parts_of_value(first) + parts_of_value(second) > PAIR_PARTS
+
+
+def answerer_asked(frames, deed):
+    """The number of the frame of the handle that answers a deed, passed ones left out; None of none."""
+    passes = 0
+    for at in reversed(range(len(frames))):
+        frame = frames[at]
+        if frame[0] == "past" and frame[1][1] == deed:
+            passes += 1
+        elif frame[0] == "handle" and deed in clause_deeds(frame[1]):
+            if passes == 0:
+                return at
+            passes -= 1
+    return None
+
+
+def answerer_called(frames, number, deed):
+    """The number of the innermost frame of this very under; None where there's none, or it has no such clause."""
+    for at in reversed(range(len(frames))):
+        frame = frames[at]
+        if frame[0] == "under" and frame[3] == number:
+            return at if deed in clause_deeds(frame[1]) else None
+    return None
+
+
+def askof_answerer(state, frame):
+    """The number of the frame of the under of which an askof asks; None as above."""
+    _, called, deed, _ = frame[1]
+    return answerer_called(state.frames, frame[2][("answerer", called)], deed)
+
+
+# What keeps a step from being done: told is what the run comes to by that, or that it goes on.
+
+
+def full_trouble(state, frame, value):
+    return LONG if state.is_full() else GOING
+
+
+def worn_trouble(state, frame, value):
+    return LONG if state.is_worn() else GOING
+
+
+def call_trouble(state, frame, value):
+    called = frame[3][0]
+    if called[0] == "fun":
+        return full_trouble(state, frame, value)
+    if called[0] == "kept":
+        return worn_trouble(state, frame, value)
+    return ("stuck", "call")
+
+
+def op_trouble(state, frame, value):
+    return GOING if frame[3][0][0] == "num" and value[0] == "num" else ("stuck", "number")
+
+
+def two_trouble(state, frame, value):
+    # A pair that isn't too large asks for no step.
+    return LONG
+
+
+def if_trouble(state, frame, value):
+    return GOING if value[0] == "num" else ("stuck", "number")
+
+
+def side_trouble(state, frame, value):
+    return GOING if value[0] == "pair" else ("stuck", "pair")
+
+
+def askof_trouble(state, frame, value):
+    if askof_answerer(state, frame) is None:
+        return ("stuck", "answerer")
+    return full_trouble(state, frame, value)
+
+
+TROUBLE_BY_WORD = {
+    "call": call_trouble,
+    "op": op_trouble,
+    "two": two_trouble,
+    "if": if_trouble,
+    "first": side_trouble,
+    "second": side_trouble,
+    "ask": full_trouble,
+    "askof": askof_trouble,
+    "waits": worn_trouble,
+}
+
+
+def call_step(state, frame, value):
+    called = frame[3][0]
+    state.frames.pop()
+    if called[0] == "kept":
+        state.go_on(called[1], value)
+        return
+    state.calls += 1
+    _, term, scope = called
+    handed = [value] if term[0] == "fun" else [called, value]
+    state.do_term(inner(term)[0], with_keys(scope, name_keys(term[1:-1]), handed))
+
+
+def let_step(state, frame, value):
+    _, term, scope, _ = frame
+    state.become(term[3], with_keys(scope, name_keys(term[1:2]), [value]))
+
+
+def op_step(state, frame, value):
+    first = frame[3][0][1]
+    second = value[1]
+    word = frame[1][1]
+    if word == "plus":
+        number = first + second
+    elif word == "less":
+        number = first - second
+    elif word == "times":
+        number = first * second
+    else:
+        number = 1 if first < second else 0
+    state.leave(("num", number % MODULUS))
+
+
+def if_step(state, frame, value):
+    _, term, scope, _ = frame
+    state.become(term[3] if value[1] == 0 else term[2], scope)
+
+
+def side_step(state, frame, value):
+    state.leave(value[1] if frame[0] == "first" else value[2])
+
+
+def same_step(state, frame, value):
+    state.leave(value)
+
+
+def then_step(state, frame, value):
+    _, term, scope, _ = frame
+    state.become(term[3][1], with_keys(scope, name_keys(term[3][:1]), [value]))
+
+
+def ask_step(state, frame, value):
+    deed = frame[1][1]
+    state.note_ask(deed, value)
+    at = answerer_asked(state.frames, deed)
+    if at is None:
+        state.status = ("asks", deed, told_value(value))
+    else:
+        answer(state, at, deed, value)
+
+
+def askof_step(state, frame, value):
+    state.note_ask(frame[1][2], value)
+    answer(state, askof_answerer(state, frame), frame[1][2], value)
+
+
+def answer(state, at, deed, value):
+    """The answerer of a frame answers a deed that's asked at the innermost frame."""
+    _, term, scope, _ = state.frames[at]
+    clause = term[4][clause_deeds(term).index(deed)]
+    # The ask itself is done with: what's left to do goes on by what's put there.
+    left = tuple(state.frames[at:-1])
+    del state.frames[at:]
+    kept = ("kept", left[1:] if term[1] == "shallow" else left)
+    within = with_keys(scope, clause_keys(clause), [value, kept])
+    if clause[1] == "end":
+        clean(state, dropped_wards(left), clause[4], within)
+        return
+    if clause[1] == "quick":
+        state.frames.append(("waits", left))
+    state.do_term(clause[4], within)
+
+
+def dropped_wards(frames):
+    """The pairs (U, scope) of the wards in these frames of which T isn't come to its end, inner ones first."""
+    return [(frame[1][2], frame[2]) for frame in frames[::-1] if frame[0] == "ward"]
+
+
+def clean(state, wards, term, scope):
+    """Clean the first one of these wards, to clean the others then; of none the term is next."""
+    if not wards:
+        state.do_term(term, scope)
+        return
+    state.frames.append(("cleans", wards[1:], term, scope))
+    state.do_term(wards[0][0], wards[0][1])
+
+
+def ward_step(state, frame, value):
+    _, term, scope, _ = frame
+    state.frames[-1] = ("cleaned", value)
+    state.do_term(term[2], scope)
+
+
+def cleaned_step(state, frame, value):
+    state.events.append(("clean", told_value(value)))
+    state.leave(frame[1])
+
+
+def cleans_step(state, frame, value):
+    state.events.append(("clean", told_value(value)))
+    state.frames.pop()
+    _, wards, term, scope = frame
+    clean(state, wards, term, scope)
+
+
+def waits_step(state, frame, value):
+    state.frames.pop()
+    state.go_on(frame[1], value)
+
+
+STEP_BY_WORD = {
+    "call": call_step,
+    "let": let_step,
+    "op": op_step,
+    "if": if_step,
+    "first": side_step,
+    "second": side_step,
+    "ask": ask_step,
+    "askof": askof_step,
+    "past": same_step,
+    "pastof": same_step,
+    "handle": then_step,
+    "under": then_step,
+    "ward": ward_step,
+    "cleaned": cleaned_step,
+    "cleans": cleans_step,
+    "waits": waits_step,
+}
