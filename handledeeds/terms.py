@@ -57,6 +57,17 @@ def all_parts(term):
     return found
 
 
+def turned(term, change):
+    """The term with each part, those within it being turned already, turned into what change tells of it."""
+    done = []
+    for part in all_parts(term)[::-1]:
+        ahead = len(done) - len(inner(part))
+        within = done[ahead:]
+        del done[ahead:]
+        done.append(change(rebuilt(part, within)))
+    return done[0]
+
+
 def path_to(term, place):
     """The list of the TERMs on the way from a term to its PLACE, both ends too."""
     path = [term]

@@ -3,6 +3,7 @@
 from handledeeds.errors import NotAsked
 from handledeeds.free import need_nothing
 from handledeeds.limits import MOST
+from handledeeds.runs import run_answered
 from handledeeds.treeform import NOTHING
 from handledeeds.treeform import tree_of
 from handledeeds.treestate import GOING
@@ -72,11 +73,4 @@ class TreeRun:
 
 def told_of(term, *, answers=(), most=MOST):
     """The pair (outcome, trace) of a run of which as many asks are answered as there are answers."""
-    run = TreeRun(term, most=most)
-    run.run()
-    for value in answers:
-        if run.outcome()[0] != "asks":
-            break
-        run.answer(value)
-        run.run()
-    return (run.outcome(), run.trace())
+    return run_answered(TreeRun(term, most=most), answers)

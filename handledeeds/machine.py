@@ -1,0 +1,87 @@
+"""A machine for rows, which keeps what's still to do in pieces."""
+
+from handledeeds.errors import NotAsked
+from handledeeds.limits import MOST
+from handledeeds.limits import STEPS
+from handledeeds.machineimage import image_of
+from handledeeds.machineimage import state_of
+from handledeeds.machinerows import do_rows
+from handledeeds.machinestate import MachineState
+from handledeeds.runs import run_answered
+from handledeeds.things import thing_of
+
+
+class Machine:
+    """A run of rows, row by row; at most so many calls and asks, together."""
+
+    def __init__(self, rows, *, most=MOST):
+        self._state = MachineState(list(rows), most)
+
+    def go(self, *, steps=STEPS):
+        """Do at most so many rows: how many were done."""
+        return do_rows(self._state, steps)
+
+    def run(self):
+        """Do rows till none can be done: the outcome."""
+        while do_rows(self._state, STEPS) > 0:
+            pass
+        return self.outcome()
+
+    def outcome(self):
+        """What the run has come to so far."""
+        return ("going",) if self._state.status is None else self._state.status
+
+    def answer(self, value):
+        """Answer what is asked from without; NotAsked where the run doesn't wait."""
+        state = self._state
+        if self.outcome()[0] != "asks":
+            raise NotAsked()
+        state.status = None
+        state.stack.append(thing_of(value))
+
+    def trace(self):
+        """The list of what was asked and cleaned."""
+        return list(self._state.events)
+
+    def counts(self):
+        """The pair (calls, asks)."""
+        return (self._state.calls, self._state.asked)
+
+    def steps(self):
+        """How many rows are done."""
+        return self._state.rows_done
+
+    def moved(self):
+        """How many answerers' pieces were put into what is kept, or taken out of it."""
+        return self._state.moves
+
+    def depth(self):
+        """How many pieces there are, the outermost one counted, those that wait not."""
+        return len(self._state.pasts)
+
+    def image(self):
+        """All that is to be known of the machine beside its rows, as a tuple."""
+        return image_of(self._state)
+
+    def like(self):
+        """A machine of its own, the same."""
+        other = Machine([])
+        other._state = self._state.copied()
+        return other
+
+    def __eq__(self, other):
+        if not isinstance(other, Machine):
+            return False
+        return self._state.rows == other._state.rows and self.image() == other.image()
+
+
+def machine_of(rows, image):
+    """A machine of these rows that is as the one that told the image was."""
+    machine = Machine([])
+    machine._state = state_of(list(rows), image)
+    return machine
+
+
+def told_by(rows, *, answers=(), most=MOST):
+    """The pair (outcome, trace) of a run of which as many asks are answered as there are answers."""
+    return run_answered(Machine(rows, most=most), answers)
