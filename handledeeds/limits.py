@@ -44,3 +44,21 @@ PAIR_PARTS = 60
 TREE_PARTS = 300
 
 TREE_DEPTH = 40
+
+ANSWER_DEPTH = 4
+
+HOUSE_PROGRAMS = 10
+
+HOUSE_RUNS = 5
+
+ROW_DEEDS = 12
+
+# Rows of deeds within one another, the outermost one counted.
+ROW_DEPTH = 3
+
+DESK_ROWS = 40
+
+DESK_SIGNS = 400
+
+# Of a number in a row of a desk.
+DESK_FIGURES = 4

@@ -8,7 +8,6 @@ from handledeeds.machineimage import state_of
 from handledeeds.machinerows import do_rows
 from handledeeds.machinestate import MachineState
 from handledeeds.runs import run_answered
-from handledeeds.things import thing_of
 
 
 class Machine:
@@ -33,11 +32,9 @@ class Machine:
 
     def answer(self, value):
         """Answer what is asked from without; NotAsked where the run doesn't wait."""
-        state = self._state
         if self.outcome()[0] != "asks":
             raise NotAsked()
-        state.status = None
-        state.stack.append(thing_of(value))
+        self._state.take_answer(value)
 
     def trace(self):
         """The list of what was asked and cleaned."""

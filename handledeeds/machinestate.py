@@ -17,6 +17,7 @@ below 0, so that they are none of the numbers that are VALUEs.
 """
 
 from handledeeds.things import Thing
+from handledeeds.things import thing_of
 from handledeeds.things import told_thing
 
 
@@ -78,6 +79,11 @@ class MachineState:
         """A deed is asked."""
         self.asked += 1
         self.events.append(("ask", deed, told_thing(value)))
+
+    def take_answer(self, value):
+        """What is asked from without is answered."""
+        self.status = None
+        self.stack.append(thing_of(value))
 
     def taken(self, number):
         """What is left to do behind the row that's done now, from an answerer on, taken out of all there is."""

@@ -22,7 +22,7 @@ class Opened:
         self.until = until
         self.at = 0
         # What's bound in this part.
-        self.names = ()
+        self.bound = ()
         # Of an answerer: (x, U) and the clauses, as far as they're read.
         self.parts = []
 
@@ -75,12 +75,12 @@ class RowReader:
         """Whether there are names for these; they're bound, then."""
         first = len(self.around)
         self.around.extend(sorts)
-        self.opened[-1].names = NAMES[first:first + len(sorts)]
+        self.opened[-1].bound = NAMES[first:first + len(sorts)]
         return len(self.around) <= len(NAMES)
 
     def unbind(self):
         """What is bound in the part that's read now stands around no more."""
-        del self.around[len(self.around) - len(self.opened[-1].names):]
+        del self.around[len(self.around) - len(self.opened[-1].bound):]
 
     def close(self, head, many):
         """The innermost TERM that's opened is whole, the last so many ones being within it; True."""

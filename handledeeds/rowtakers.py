@@ -73,7 +73,7 @@ def ends(reader, word):
 
 
 def take_unname(reader, at, row):
-    return ends(reader, "unname") and reader.close(("let", *reader.opened[-1].names), 2)
+    return ends(reader, "unname") and reader.close(("let", *reader.opened[-1].bound), 2)
 
 
 def take_to(reader, at, row):
@@ -107,7 +107,7 @@ def take_back(reader, at, row):
         return False
     if word == "ward":
         return reader.go_on("unward", [])
-    return reader.close((word, *opened.names), 1)
+    return reader.close((word, *opened.bound), 1)
 
 
 def goes_on_in_answerer(reader, behind, opened):
@@ -116,10 +116,10 @@ def goes_on_in_answerer(reader, behind, opened):
     done = len(opened.parts)
     part = reader.whole.pop()
     if done == 0:
-        opened.parts.append((opened.names[0], part))
+        opened.parts.append((opened.bound[0], part))
     else:
         deed, how, _ = clauses[done - 1]
-        x, k = opened.names if how == "many" else (opened.names[0], "")
+        x, k = opened.bound if how == "many" else (opened.bound[0], "")
         opened.parts.append((deed, how, x, k, part))
     if done == len(clauses):
         return at == behind and reader.go_on("leave", ["answerer"] if way == "under" else [])
@@ -133,7 +133,7 @@ def take_leave(reader, at, row):
         return False
     then, *clauses = opened.parts
     body = reader.whole.pop()
-    head = ("under", *opened.names) if opened.row[1] == "under" else ("handle", opened.row[1])
+    head = ("under", *opened.bound) if opened.row[1] == "under" else ("handle", opened.row[1])
     return reader.close((*head, body, then, tuple(clauses)), 0)
 
 

@@ -167,18 +167,23 @@ class LanguageTest(unittest.TestCase):
     def test_l18_l26_attributes(self):
         methods = set([node.name for _, around in nodes(ast.ClassDef) for node in around.body if isinstance(node, ast.FunctionDef)])
         stored = set([node.attr for _, node in nodes(ast.Attribute) if isinstance(node.ctx, ast.Store)])
-        self.assertEqual(methods & stored, set())
         self.assertEqual(stored & (METHODS - {"count", "index", "title", "find", "lower", "upper", "split", "strip", "copy"}), set())
+        classes = [around.name for _, around in nodes(ast.ClassDef)]
         for name, node in nodes(ast.Attribute):
-            self.assertIn(node.attr, methods | stored | METHODS, name)
+            self.assertIn(node.attr, methods | stored | METHODS | {"__class__", "__name__"}, name)
+            # A name that's both in two classes is read off no class.
+            self.assertFalse(isinstance(node.value, ast.Name) and node.value.id in classes, name)
         for name, around in nodes(ast.ClassDef):
             told = [node.name for node in around.body if isinstance(node, ast.FunctionDef)]
             self.assertEqual(len(told), len(set(told)), (name, around.name))
+            own = [node.attr for node in ast.walk(around) if isinstance(node, ast.Attribute) and isinstance(node.ctx, ast.Store)]
+            self.assertEqual(set(told) & set(own), set(), (name, around.name))
 
     def test_l19_errors(self):
         own = defined("errors.py")
         for name, node in nodes(ast.ExceptHandler):
-            self.assertIn(node.type.id, own, name)
+            for caught in node.type.elts if isinstance(node.type, ast.Tuple) else [node.type]:
+                self.assertIn(caught.id, own, name)
         for name, node in nodes(ast.Raise):
             self.assertIn(node.exc.func.id, own, name)
 
