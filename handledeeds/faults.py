@@ -1,6 +1,7 @@
 """What keeps a term from being looked at at all: names, deeds and answerers that aren't there."""
 
 from handledeeds.shapes import bindings
+from handledeeds.shapes import called_key
 from handledeeds.shapes import clause_deeds
 from handledeeds.shapes import inner
 from handledeeds.shapes import with_keys
@@ -10,7 +11,7 @@ def first_fault(term, sheet, known):
     """The first pair (PLACE, why), in the order of places_of, of what isn't there; None of none."""
     deeds = [row[0] for row in sheet]
     # What stands around: of names nothing is to be told, of answerers the deeds of their clauses.
-    around = {("name", name): () for name, _ in known}
+    around = {name: () for name, _ in known}
     waiting = [((), term, around)]
     while waiting:
         place, part, around = waiting.pop()
@@ -29,9 +30,9 @@ def fault(part, deeds, around):
     """What isn't there of all that the part itself, none of those within it, needs; "" of nothing."""
     word = part[0]
     if word == "name":
-        return "" if ("name", part[1]) in around else "name"
+        return "" if part[1] in around else "name"
     if word == "askof" or word == "pastof":
-        key = ("answerer", part[1])
+        key = called_key(part[1])
         if key not in around:
             return "answerer"
         return "deed" if word == "askof" and part[2] not in around[key] else ""

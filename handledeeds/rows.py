@@ -2,6 +2,7 @@
 
 from handledeeds.free import need_nothing
 from handledeeds.shapes import bindings
+from handledeeds.shapes import called_key
 from handledeeds.shapes import inner
 
 
@@ -50,7 +51,7 @@ class Writer:
         if word == "num":
             return [("row", *term)]
         if word == "name":
-            return [("row", "get", further_in(keys, ("name", term[1])))]
+            return [("row", "get", further_in(keys, term[1]))]
         if word == "fun" or word == "rec":
             behind = self.mark()
             return [("row", word, behind), *within, ("row", "back"), ("mark", behind)]
@@ -61,14 +62,14 @@ class Writer:
         if word == "past":
             return [("row", "past", term[1]), *within, ("row", "unpast")]
         if word == "pastof":
-            return [("row", "pastof", further_in(keys, ("answerer", term[1]))), *within, ("row", "unpast")]
+            return [("row", "pastof", further_in(keys, called_key(term[1]))), *within, ("row", "unpast")]
         if word == "handle" or word == "under":
             return self.laid_answerer(term, within)
         if word == "ward":
             at = self.mark()
             return [("row", "ward", at), within[1], ("row", "back"), ("mark", at), within[0], ("row", "unward")]
         if word == "askof":
-            return [*within, ("row", "askof", further_in(keys, ("answerer", term[1])), term[2])]
+            return [*within, ("row", "askof", further_in(keys, called_key(term[1])), term[2])]
         # A call, an op, a pair, a side of one, an ask.
         return [*within, ("row", *[field for field in term if type(field) is str])]
 

@@ -10,8 +10,10 @@ from handledeeds.kinds import opens_of
 from handledeeds.labels import joined
 from handledeeds.labels import written_label
 from handledeeds.shapes import bindings
+from handledeeds.shapes import called_key
 from handledeeds.shapes import clause_deeds
 from handledeeds.shapes import inner
+from handledeeds.shapes import is_called_key
 from handledeeds.shapes import with_keys
 
 
@@ -45,7 +47,7 @@ def walk(judge, top):
 
 def known_around(known):
     """What stands around a whole term: names of which all that's open may be something else."""
-    return {("name", name): (kind, *opens_of(kind)) for name, kind in known}
+    return {name: (kind, *opens_of(kind)) for name, kind in known}
 
 
 def part_around(judge, node, at):
@@ -96,8 +98,8 @@ def held(judge, node):
     kinds, tails = judge.opens("number", node.roster)
     kinds = {n: True for n in kinds}
     tails = {n: True for n in tails}
-    for (sort, _), meaning in node.around.items():
-        if sort == "name":
+    for key, meaning in node.around.items():
+        if not is_called_key(key):
             open_kinds, open_tails = judge.opens(meaning[0], ((), None))
             kinds.update({n: True for n in open_kinds if n not in meaning[1]})
             tails.update({n: True for n in open_tails if n not in meaning[2]})
@@ -139,7 +141,7 @@ def num_rule(judge, node):
 
 
 def name_rule(judge, node):
-    judge.uses(node.kind, node.around[("name", node.form[1])])
+    judge.uses(node.kind, node.around[node.form[1]])
 
 
 def fun_rule(judge, node):
@@ -181,7 +183,7 @@ def ask_rule(judge, node):
 
 def askof_rule(judge, node):
     _, called, deed, _ = node.form
-    asked(judge, node, deed, node.around[("answerer", called)][deed])
+    asked(judge, node, deed, node.around[called_key(called)][deed])
 
 
 def asked(judge, node, deed, label):
@@ -197,7 +199,7 @@ def past_rule(judge, node):
 
 
 def pastof_rule(judge, node):
-    labels = node.around[("answerer", node.form[1])]
+    labels = node.around[called_key(node.form[1])]
     passed(judge, node, tuple(list(labels.values())))
 
 
@@ -253,7 +255,7 @@ def let_out(judge, node):
     if node.form[0] != "under":
         return False
     labels = judge.labels(node.kind, node.roster)
-    for (sort, _), meaning in node.around.items():
-        if sort == "name":
+    for key, meaning in node.around.items():
+        if not is_called_key(key):
             labels.extend(judge.labels(meaning[0], ((), None)))
     return any([label in labels for label in clause_labels(node)])

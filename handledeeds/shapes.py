@@ -1,7 +1,7 @@
 """How the forms of TERMs are built, and what stands for what within them.
 
-What may be bound is a key, the pair ("name", x) or ("answerer", h): names and names of answerers
-that are called alike are so kept apart.
+What may be bound is a key: a name itself, of an answerer its name behind a colon. So names and names of
+answerers that are called alike are kept apart.
 """
 
 SHAPES = {
@@ -25,95 +25,112 @@ SHAPES = {
     "ward": ("term", "term"),
 }
 
+# Where in a term those within it begin, up to its end; 0 of answerers, which aren't built so.
+FIRST_INNER = {
+    "num": 2,
+    "name": 2,
+    "fun": 2,
+    "rec": 3,
+    "call": 1,
+    "let": 2,
+    "op": 2,
+    "if": 1,
+    "two": 1,
+    "first": 1,
+    "second": 1,
+    "ask": 2,
+    "askof": 3,
+    "past": 2,
+    "pastof": 2,
+    "handle": 0,
+    "under": 0,
+    "ward": 1,
+}
+
+NOTHING_BOUND = ((), (), ())
+
 
 def inner(term):
-    """The list of the TERMs straight within a term, in their order."""
-    found = []
-    for kind, field in zip(SHAPES[term[0]], term[1:]):
-        if kind == "term":
-            found.append(field)
-        elif kind == "then":
-            found.append(field[1])
-        elif kind == "clauses":
-            found.extend([clause[4] for clause in field])
-    return found
+    """The tuple of the TERMs straight within a term, in their order."""
+    first = FIRST_INNER[term[0]]
+    if first > 0:
+        return term[first:]
+    return (term[2], term[3][1], *[clause[4] for clause in term[4]])
 
 
 def rebuilt(term, parts):
-    """The term with these parts in the places of those straight within it."""
-    fields = [term[0]]
-    at = 0
-    for kind, field in zip(SHAPES[term[0]], term[1:]):
-        if kind == "term":
-            fields.append(parts[at])
-            at += 1
-        elif kind == "then":
-            fields.append((field[0], parts[at]))
-            at += 1
-        elif kind == "clauses":
-            fields.append(tuple([(*clause[:4], part) for clause, part in zip(field, parts[at:])]))
-        else:
-            fields.append(field)
-    return tuple(fields)
+    """The term with these parts, a list, in the places of those straight within it."""
+    first = FIRST_INNER[term[0]]
+    if first > 0:
+        return (*term[:first], *parts)
+    clauses = tuple([(*clause[:4], part) for clause, part in zip(term[4], parts[2:])])
+    return (*term[:2], parts[0], (term[3][0], parts[1]), clauses)
 
 
-def name_keys(names):
-    """The keys of names."""
-    return tuple([("name", name) for name in names])
+def called_key(called):
+    """The key of an answerer's name."""
+    return ":" + called
+
+
+def is_called_key(key):
+    """Whether a key is an answerer's."""
+    return key.startswith(":")
 
 
 def clause_keys(clause):
     """The keys that a clause binds in its own TERM."""
-    return name_keys(clause[2:4] if clause[1] == "many" else clause[2:3])
+    return clause[2:4] if clause[1] == "many" else clause[2:3]
 
 
 def clause_deeds(term):
     """The list of the deeds of an answerer's clauses; of any other term none."""
-    if term[0] == "handle" or term[0] == "under":
-        return [clause[0] for clause in term[4]]
-    return []
+    if FIRST_INNER[term[0]] > 0:
+        return []
+    return [clause[0] for clause in term[4]]
 
 
 def bindings(term):
-    """For each TERM straight within a term, the tuple of the keys that the term binds in it."""
+    """For each TERM straight within a term, in their order, the tuple of the keys that the term binds in it."""
     word = term[0]
-    if word == "fun":
-        return [name_keys(term[1:2])]
-    if word == "rec":
-        return [name_keys(term[1:3])]
+    if word == "fun" or word == "rec":
+        return (term[1:-1],)
     if word == "let":
-        return [(), name_keys(term[1:2])]
-    if word == "handle" or word == "under":
-        around = (("answerer", term[1]),) if word == "under" else ()
-        return [around, name_keys(term[3][:1])] + [clause_keys(clause) for clause in term[4]]
-    return [()] * len(inner(term))
+        return ((), term[1:2])
+    if FIRST_INNER[word] > 0:
+        return NOTHING_BOUND
+    around = (called_key(term[1]),) if word == "under" else ()
+    return (around, term[3][:1], *[clause_keys(clause) for clause in term[4]])
 
 
 def with_keys(around, keys, things):
     """A dict by keys with these things for these keys, which hide like ones further out."""
     if not keys:
         return around
-    told = {key: around[key] for key in around}
+    told = dict(around)
     for key, thing in zip(keys, things):
         told[key] = thing
     return told
 
 
 def uses(term):
-    """The list of the keys that the term itself, none of the TERMs within, asks for."""
-    if term[0] == "name":
-        return [("name", term[1])]
-    if term[0] == "askof" or term[0] == "pastof":
-        return [("answerer", term[1])]
-    return []
+    """The tuple of the keys that the term itself, none of the TERMs within, asks for."""
+    word = term[0]
+    if word == "name":
+        return term[1:]
+    if word == "askof" or word == "pastof":
+        return (called_key(term[1]),)
+    return ()
 
 
 def bones(term):
     """What of the term itself stays, whatever is called otherwise: words, numbers and deeds."""
-    kept = [term[0]]
-    for kind, field in zip(SHAPES[term[0]], term[1:]):
-        if kind == "clauses":
-            kept.append(tuple([clause[:2] for clause in field]))
-        elif kind not in ("name", "term", "then"):
-            kept.append(field)
-    return tuple(kept)
+    word = term[0]
+    if word == "name" or word == "fun" or word == "rec" or word == "let" or word == "pastof":
+        return word
+    if word == "askof":
+        return (word, term[2])
+    first = FIRST_INNER[word]
+    if first > 0:
+        return term[:first]
+    way = term[1] if word == "handle" else ""
+    return (word, way, *[clause[:2] for clause in term[4]])

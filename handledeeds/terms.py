@@ -8,9 +8,11 @@ from handledeeds.errors import NoPlace
 from handledeeds.forms import is_form
 from handledeeds.limits import TERM_DEPTH
 from handledeeds.limits import TERM_PARTS
+from handledeeds.shapes import NOTHING_BOUND
 from handledeeds.shapes import bindings
 from handledeeds.shapes import bones
 from handledeeds.shapes import inner
+from handledeeds.shapes import is_called_key
 from handledeeds.shapes import rebuilt
 from handledeeds.shapes import uses
 from handledeeds.shapes import with_keys
@@ -41,8 +43,8 @@ def placed(term):
     while waiting:
         place, part = waiting.pop()
         found.append((place, part))
-        within = [((*place, at), below) for at, below in enumerate(inner(part))]
-        waiting.extend(within[::-1])
+        within = inner(part)
+        waiting.extend([((*place, at), within[at]) for at in reversed(range(len(within)))])
     return found
 
 
@@ -62,9 +64,10 @@ def turned(term, change):
     done = []
     for part in all_parts(term)[::-1]:
         ahead = len(done) - len(inner(part))
-        within = done[ahead:]
-        del done[ahead:]
-        done.append(change(rebuilt(part, within)))
+        if ahead < len(done):
+            part = rebuilt(part, done[ahead:])
+            del done[ahead:]
+        done.append(change(part))
     return done[0]
 
 
@@ -89,7 +92,7 @@ def put_at(term, place, other):
     path = path_to(term, place)
     told = other
     for at in reversed(range(len(place))):
-        parts = inner(path[at])
+        parts = list(inner(path[at]))
         parts[place[at]] = told
         told = rebuilt(path[at], parts)
     return told
@@ -118,18 +121,22 @@ def free_keys(term):
     while waiting:
         part, bound = waiting.pop()
         found.extend([key for key in uses(part) if key not in bound])
-        waiting.extend([(within, bound + keys) for within, keys in zip(inner(part), bindings(part))])
+        keys = bindings(part)
+        if keys == NOTHING_BOUND:
+            waiting.extend([(within, bound) for within in inner(part)])
+        else:
+            waiting.extend([(within, bound + more) for within, more in zip(inner(part), keys)])
     return found
 
 
 def names_free(term):
     """The rising list of names that stand for nothing in a term."""
-    return sorted(set([name for sort, name in free_keys(term) if sort == "name"]))
+    return sorted(set([key for key in free_keys(term) if not is_called_key(key)]))
 
 
 def answerers_free(term):
     """The rising list of names of answerers that stand for nothing in a term."""
-    return sorted(set([name for sort, name in free_keys(term) if sort == "answerer"]))
+    return sorted(set([key[1:] for key in free_keys(term) if is_called_key(key)]))
 
 
 def deeds_of(term):

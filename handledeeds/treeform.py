@@ -4,6 +4,7 @@ from handledeeds.limits import TREE_DEPTH
 from handledeeds.limits import TREE_PARTS
 from handledeeds.shapes import bindings
 from handledeeds.shapes import inner
+from handledeeds.shapes import is_called_key
 from handledeeds.shapes import rebuilt
 from handledeeds.shapes import uses
 
@@ -40,8 +41,8 @@ class Teller:
 
     def tell(self, term, scope, depth):
         """The TERM with what its free names stand for put in."""
-        if term[0] == "name" and ("name", term[1]) in scope:
-            return self.tell_value(scope[("name", term[1])], depth)
+        if term[0] == "name" and term[1] in scope:
+            return self.tell_value(scope[term[1]], depth)
         self.check_answerers(term, scope)
         # No deeper than what may be told: few calls within calls.
         if not self.takes(depth):
@@ -55,7 +56,7 @@ class Teller:
 
     def check_answerers(self, term, scope):
         """No TERM tells of which very one it asks: an under that was come to."""
-        if any([sort == "answerer" and (sort, name) in scope for sort, name in uses(term)]):
+        if any([is_called_key(key) and key in scope for key in uses(term)]):
             self.tells = False
 
     def tell_value(self, value, depth):

@@ -12,6 +12,7 @@ one. Of other make are
   wards, pairs (U, scope), then the clause.
 """
 
+from handledeeds.shapes import called_key
 from handledeeds.shapes import inner
 from handledeeds.shapes import with_keys
 from handledeeds.values import told_value
@@ -93,7 +94,7 @@ class TreeState:
         within = scope
         if term[0] == "under":
             told = self.unders
-            within = with_keys(scope, (("answerer", term[1]),), (told,))
+            within = with_keys(scope, (called_key(term[1]),), (told,))
             self.unders += 1
         self.frames.append((term[0], term, scope, told))
         self.do_term(inner(term)[0], within)

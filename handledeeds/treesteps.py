@@ -2,10 +2,10 @@
 
 from handledeeds.limits import MODULUS
 from handledeeds.limits import PAIR_PARTS
+from handledeeds.shapes import called_key
 from handledeeds.shapes import clause_deeds
 from handledeeds.shapes import clause_keys
 from handledeeds.shapes import inner
-from handledeeds.shapes import name_keys
 from handledeeds.shapes import with_keys
 from handledeeds.treestate import GOING
 from handledeeds.treestate import LONG
@@ -48,7 +48,7 @@ def read(state, term, scope):
     if term[0] == "num":
         state.tell(term)
     elif term[0] == "name":
-        state.tell(scope[("name", term[1])])
+        state.tell(scope[term[1]])
     elif term[0] == "fun" or term[0] == "rec":
         state.tell(("fun", term, scope))
     else:
@@ -101,7 +101,7 @@ def answerer_called(frames, number, deed):
 def askof_answerer(state, frame):
     """The number of the frame of the under of which an askof asks; None as above."""
     _, called, deed, _ = frame[1]
-    return answerer_called(state.frames, frame[2][("answerer", called)], deed)
+    return answerer_called(state.frames, frame[2][called_key(called)], deed)
 
 
 # What keeps a step from being done: told is what the run comes to by that, or that it goes on.
@@ -169,12 +169,12 @@ def call_step(state, frame, value):
     state.calls += 1
     _, term, scope = called
     handed = [value] if term[0] == "fun" else [called, value]
-    state.do_term(inner(term)[0], with_keys(scope, name_keys(term[1:-1]), handed))
+    state.do_term(inner(term)[0], with_keys(scope, term[1:-1], handed))
 
 
 def let_step(state, frame, value):
     _, term, scope, _ = frame
-    state.become(term[3], with_keys(scope, name_keys(term[1:2]), [value]))
+    state.become(term[3], with_keys(scope, term[1:2], [value]))
 
 
 def op_step(state, frame, value):
@@ -207,7 +207,7 @@ def same_step(state, frame, value):
 
 def then_step(state, frame, value):
     _, term, scope, _ = frame
-    state.become(term[3][1], with_keys(scope, name_keys(term[3][:1]), [value]))
+    state.become(term[3][1], with_keys(scope, term[3][:1], [value]))
 
 
 def ask_step(state, frame, value):
