@@ -6,6 +6,17 @@ from handledeeds.shapes import clause_deeds
 from handledeeds.shapes import inner
 from handledeeds.shapes import with_keys
 
+# All others need nothing.
+NEEDY = {
+    "name": True,
+    "ask": True,
+    "askof": True,
+    "past": True,
+    "pastof": True,
+    "handle": True,
+    "under": True,
+}
+
 
 def first_fault(term, sheet, known):
     """The first pair (PLACE, why), in the order of places_of, of what isn't there; None of none."""
@@ -15,7 +26,7 @@ def first_fault(term, sheet, known):
     waiting = [((), term, around)]
     while waiting:
         place, part, around = waiting.pop()
-        why = fault(part, deeds, around)
+        why = fault(part, deeds, around) if part[0] in NEEDY else ""
         if why != "":
             return (place, why)
         answered = clause_deeds(part)
@@ -27,7 +38,10 @@ def first_fault(term, sheet, known):
 
 
 def fault(part, deeds, around):
-    """What isn't there of all that the part itself, none of those within it, needs; "" of nothing."""
+    """What isn't there of all that a needy part itself, none of those within it, needs; "" of nothing.
+
+    Deeds, and what stands around for an answerer, may be anything that has deeds in it.
+    """
     word = part[0]
     if word == "name":
         return "" if part[1] in around else "name"

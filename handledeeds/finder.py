@@ -1,16 +1,14 @@
 """What open KINDs and open tails are found to be, and how two are made the same."""
 
 from handledeeds.errors import Unlike
-from handledeeds.kindheads import heads_of
-from handledeeds.kindheads import is_open
+from handledeeds.kindheads import built
 from handledeeds.kindheads import is_roster_head
-from handledeeds.kindheads import opens_in
 from handledeeds.labels import beyond
 from handledeeds.labels import joined
 
 
 class Finder:
-    """Opens by their numbers. One that was refused midway is of no use any more: try it with a copy."""
+    """Opens by their numbers. What is found ahead of a refusal stays found, but for what back_to takes back."""
 
     def __init__(self):
         # What is found, by number: KINDs and ROSTERs in which there may be others that are found.
@@ -29,6 +27,19 @@ class Finder:
         other.many_tails = self.many_tails
         return other
 
+    def mark(self):
+        """What back_to is handed to take back all that's found from now on."""
+        return (len(self.kinds), len(self.tails), self.many_tails)
+
+    def back_to(self, mark):
+        """Take back what was found since a mark; what's made of kinds stays made."""
+        kinds, tails, self.many_tails = mark
+        # A dict keeps the order in which things are found.
+        for number in list(self.kinds)[kinds:]:
+            del self.kinds[number]
+        for number in list(self.tails)[tails:]:
+            del self.tails[number]
+
     def make_kind(self):
         """A new open KIND."""
         self.many_kinds += 1
@@ -41,7 +52,7 @@ class Finder:
 
     def shown(self, kind):
         """The kind itself, or what it's found to be, with nothing put in further within."""
-        while is_open(kind) and kind[1] in self.kinds:
+        while kind[0] == "any" and kind[1] in self.kinds:
             kind = self.kinds[kind[1]]
         return kind
 
@@ -53,69 +64,100 @@ class Finder:
             labels = joined(labels, more)
         return (labels, tail)
 
-    def whole_heads(self, heads):
-        """The heads with all that's found put in."""
-        return self.spread(heads, False)
+    def whole_kind(self, kind):
+        """The kind with all that's found put in."""
+        kind = self.shown(kind)
+        if kind == "number" or kind[0] == "any":
+            return kind
+        return built(self.whole_heads([kind]))
 
-    def first_heads(self, heads):
+    def whole_heads(self, parts):
+        """The heads of KINDs and ROSTERs, one behind the other, with all that's found put in."""
+        return self.spread(parts, False)
+
+    def first_heads(self, parts):
         """Likewise, but what a kind is found to be where that kind stands first alone.
 
         It's enough to see what stands in there, and stays short where the whole would not.
         """
-        return self.spread(heads, True)
+        return self.spread(parts, True)
 
-    def spread(self, heads, once):
+    def spread(self, parts, once):
         """The heads with all that's found put in, for each open kind once or each time."""
         done = []
         seen = {}
-        waiting = heads[::-1]
+        waiting = parts[::-1]
         while waiting:
-            head = waiting.pop()
-            if is_roster_head(head):
-                done.append(self.whole_roster(head))
-            elif not is_open(head) or head[1] not in self.kinds:
-                done.append(head)
-            elif not once or head[1] not in seen:
-                seen[head[1]] = True
-                waiting.extend(heads_of(self.kinds[head[1]])[::-1])
+            part = waiting.pop()
+            word = part[0]
+            if word == "pair" or word == "fun":
+                done.append(word)
+                waiting.extend(part[:0:-1])
+            elif word == "any" and part[1] in self.kinds:
+                if not once or part[1] not in seen:
+                    seen[part[1]] = True
+                    waiting.append(self.kinds[part[1]])
+            else:
+                done.append(self.whole_roster(part) if is_roster_head(part) else part)
         return done
 
     def unite(self, kind, other):
         """Find what makes both kinds the same; Unlike where nothing does."""
-        waiting = [(kind, other)]
+        waiting = self.unite_shown(self.shown(kind), self.shown(other))
         seen = {}
         while waiting:
             left, right = waiting.pop()
-            if is_open(left) and is_open(right):
+            if left[0] == "any" and right[0] == "any":
                 # What two kinds are found to be is compared once, wherever they meet again.
                 if (left[1], right[1]) in seen:
                     continue
                 seen[(left[1], right[1])] = True
-            waiting.extend(self.unite_heads(self.shown(left), self.shown(right)))
+            waiting.extend(self.unite_shown(self.shown(left), self.shown(right)))
 
-    def unite_heads(self, left, right):
+    def unite_shown(self, left, right):
         """Likewise of what two kinds are shown to be; the pairs within that are to be the same are told."""
-        if is_open(left):
-            self.bind(left, right)
+        word = left[0]
+        if word == "any":
+            self.bind(left[1], right)
             return []
-        if is_open(right):
-            self.bind(right, left)
+        if right[0] == "any":
+            self.bind(right[1], left)
             return []
-        if left[0] != right[0]:
+        if word != right[0]:
             raise Unlike()
-        if left == "number":
-            return []
-        if left[0] == "fun":
+        if word == "pair":
+            return [(left[2], right[2]), (left[1], right[1])]
+        if word == "fun":
             self.unite_rosters(left[2], right[2])
-        return [(left[-1], right[-1]), (left[1], right[1])]
+            return [(left[3], right[3]), (left[1], right[1])]
+        return []
 
-    def bind(self, opened, kind):
-        """An open kind is found to be another one; Unlike where it would be within itself."""
-        if kind == opened:
+    def bind(self, number, kind):
+        """The open kind of a number is found to be another one; Unlike where it would be within itself."""
+        if kind == ("any", number):
             return
-        if opened[1] in opens_in(self.first_heads(heads_of(kind)))[0]:
+        if self.stands_in(number, kind):
             raise Unlike()
-        self.kinds[opened[1]] = kind
+        self.kinds[number] = kind
+
+    def stands_in(self, number, kind):
+        """Whether the open kind of a number, of which nothing is found, stands in a kind."""
+        waiting = [kind]
+        seen = {}
+        while waiting:
+            part = waiting.pop()
+            word = part[0]
+            if word == "pair":
+                waiting.extend(part[1:])
+            elif word == "fun":
+                waiting.extend(part[1::2])
+            elif word == "any":
+                if part[1] == number:
+                    return True
+                if part[1] in self.kinds and part[1] not in seen:
+                    seen[part[1]] = True
+                    waiting.append(self.kinds[part[1]])
+        return False
 
     def unite_rosters(self, roster, other):
         """Find what makes both rosters the same; Unlike where nothing does."""

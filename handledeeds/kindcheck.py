@@ -1,9 +1,11 @@
 """Whether a thing is a paper of a term's kinds."""
 
 from handledeeds.errors import Unlike
-from handledeeds.faults import first_fault
-from handledeeds.kindforms import is_kind_within
-from handledeeds.kindforms import is_roster_within
+from handledeeds.faults import NEEDY
+from handledeeds.faults import fault
+from handledeeds.kindforms import are_labels
+from handledeeds.kindforms import is_kind_shape
+from handledeeds.kindforms import is_roster_shape
 from handledeeds.kindheads import alike
 from handledeeds.kindheads import heads_of
 from handledeeds.kindheads import labels_in
@@ -11,12 +13,12 @@ from handledeeds.kindheads import opens_in
 from handledeeds.kinds import finds
 from handledeeds.kinds import opens_of
 from handledeeds.labels import written_label
+from handledeeds.limits import NOT_DEEP
+from handledeeds.rules import RULES
 from handledeeds.rules import Node
-from handledeeds.rules import keep_rule
 from handledeeds.rules import known_around
 from handledeeds.rules import let_out
 from handledeeds.rules import walk
-from handledeeds.terms import places_of
 
 
 def label_of(place, deed):
@@ -26,31 +28,14 @@ def label_of(place, deed):
 
 def shows_kinds(term, sheet, thing, *, known=()):
     """Whether a thing is a paper of a term's kinds, this or any other."""
-    if not is_paper_form(thing, places_of(term)) or first_fault(term, sheet, known) is not None:
+    if type(thing) is not list:
         return False
     checker = Checker(sheet, thing)
     try:
         walk(checker, checker.enter((), term, known_around(known), None))
     except Unlike:
         return False
-    return True
-
-
-def is_paper_form(thing, places):
-    """Whether a thing is a list of one triple (PLACE, KIND, ROSTER) for each of these PLACEs, in their order."""
-    if type(thing) is not list or len(thing) != len(places):
-        return False
-    return all([is_triple(triple, place) for triple, place in zip(thing, places)])
-
-
-def is_triple(thing, place):
-    """Whether a thing is a triple of this PLACE."""
-    if type(thing) is not tuple or len(thing) != 3 or not is_kind_within(thing[1], None, None, None):
-        return False
-    # True is 1 to Python, but no number of a PLACE.
-    if type(thing[0]) is not tuple or not all([type(step) is int for step in thing[0]]):
-        return False
-    return thing[0] == place and is_roster_within(thing[2], None)
+    return checker.entered == len(thing)
 
 
 class Checker:
@@ -58,59 +43,132 @@ class Checker:
 
     def __init__(self, sheet, paper):
         self.deed_kinds = {deed: (handed, answered) for deed, handed, answered in sheet}
-        self.paper = {place: (kind, roster) for place, kind, roster in paper}
+        self.paper = paper
+        # PLACEs are entered in the order of the paper.
+        self.entered = 0
+        self.largest = 0
+        # Rows of labels that were seen to be such.
+        self.rows = {}
 
     def enter(self, place, form, around, roster):
         """The Node of a PLACE by the paper, its ROSTER this one, or any where that's None; Unlike."""
-        kind, shown_roster = self.paper[place]
-        if roster is not None:
-            self.same_roster(shown_roster, roster)
+        if self.entered == len(self.paper) or form[0] in NEEDY and fault(form, self.deed_kinds, around) != "":
+            raise Unlike()
+        triple = self.paper[self.entered]
+        self.entered += 1
+        if type(triple) is not tuple or len(triple) != 3 or not is_place(triple[0], place):
+            raise Unlike()
+        _, kind, shown_roster = triple
+        if not self.is_roster(shown_roster) or roster is not None and roster != shown_roster:
+            raise Unlike()
+        if type(kind) is not str or kind != "number":
+            self.check_kind(kind)
         # What's within a fun or a rec is asked for as its parts are entered, ahead of its rule.
         if (form[0] == "fun" or form[0] == "rec") and kind[0] != "fun":
             raise Unlike()
         return Node(place, form, around, kind, shown_roster)
 
+    def check_kind(self, thing):
+        """A thing is a KIND, of whatever size; Unlike."""
+        waiting = [thing]
+        parts = 0
+        while waiting:
+            part = waiting.pop()
+            parts += 1
+            if not is_kind_shape(part):
+                raise Unlike()
+            if part[0] == "pair":
+                waiting.extend(part[1:])
+            elif part[0] == "fun":
+                if not self.is_roster(part[2]):
+                    raise Unlike()
+                waiting.append(part[1])
+                waiting.append(part[3])
+        if parts > self.largest:
+            self.largest = parts
+
+    def is_roster(self, thing):
+        """Whether a thing is a ROSTER, of however many labels."""
+        if not is_roster_shape(thing):
+            return False
+        row = thing[0]
+        if len(row) == 0 or row in self.rows:
+            return True
+        if not are_labels(row):
+            return False
+        self.rows[row] = True
+        return True
+
     def leave(self, node):
         """Tell whether the rule of a node is kept; Unlike."""
-        keep_rule(self, node)
-        if let_out(self, node):
+        rule = RULES[node.word]
+        rule(self, node)
+        if node.word == "under" and let_out(self, node):
             raise Unlike()
 
     def same(self, kind, other):
-        if not alike(kind, other):
+        # Python compares tuples by calls within calls.
+        so = kind == other if self.largest < NOT_DEEP else alike(kind, other)
+        if not so:
             raise Unlike()
 
     def same_roster(self, roster, other):
         if roster != other:
             raise Unlike()
 
-    def has_side(self, kind, side, part):
-        """A kind is a pair, of which this side is a part."""
+    def settle(self, node, kind):
+        """The KIND of a node is this one."""
+        self.same(node.kind, kind)
+
+    def wanted(self, node):
+        """The KIND of a node."""
+        return node.kind
+
+    def settle_side(self, node, kind, side):
+        """The KIND of a node is this side of a kind, which is a pair."""
         if kind[0] != "pair":
             raise Unlike()
-        self.same(kind[1] if side == "first" else kind[2], part)
+        self.same(node.kind, kind[1] if side == "first" else kind[2])
+
+    def settle_use(self, node, meaning):
+        """The KIND of a node is that of a name, with something put in for what may be something else."""
+        named, free_kinds, free_tails = meaning
+        if not free_kinds and not free_tails:
+            self.same(node.kind, named)
+            return
+        kinds, tails = opens_of(named)
+        # All else that's open stays as it is.
+        put_kinds = {n: ("any", n) for n in kinds if n not in free_kinds}
+        put_tails = {n: ((), n) for n in tails if n not in free_tails}
+        if not finds(named, node.kind, put_kinds, put_tails):
+            raise Unlike()
 
     def has_label(self, roster, label):
         """A roster has a label."""
         if label not in roster[0]:
             raise Unlike()
 
-    def uses(self, kind, meaning):
-        """A kind is that of a name, with something put in for what may be something else."""
-        named, free_kinds, free_tails = meaning
-        kinds, tails = opens_of(named)
-        # All else that's open stays as it is.
-        put_kinds = {n: ("any", n) for n in kinds if n not in free_kinds}
-        put_tails = {n: ((), n) for n in tails if n not in free_tails}
-        if not finds(named, kind, put_kinds, put_tails):
-            raise Unlike()
-
     def told(self, kind):
         return kind
 
-    def opens(self, kind, roster):
-        return opens_in(heads_of(kind) + [roster])
+    def opens(self, parts):
+        """opens_of of KINDs and ROSTERs, one behind the other."""
+        return opens_in(heads_in(parts))
 
-    def labels(self, kind, roster):
-        """The list of all LABELs that stand in both."""
-        return labels_in(heads_of(kind) + [roster])
+    def labels(self, parts):
+        """The list of all LABELs that stand in these."""
+        return labels_in(heads_in(parts))
+
+
+def is_place(thing, place):
+    """Whether a thing is this PLACE."""
+    # True is 1 to Python, but no number of a PLACE.
+    return type(thing) is tuple and all([type(step) is int for step in thing]) and thing == place
+
+
+def heads_in(parts):
+    """The row of the heads of KINDs and ROSTERs, one behind the other."""
+    heads = []
+    for part in parts:
+        heads.extend([part] if type(part[0]) is tuple else heads_of(part))
+    return heads

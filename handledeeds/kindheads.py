@@ -18,6 +18,8 @@ def is_roster_head(head):
 
 def heads_of(kind):
     """The row of the heads of a KIND."""
+    if kind == "number" or kind[0] == "any":
+        return [kind]
     heads = []
     waiting = [kind]
     while waiting:
@@ -32,6 +34,8 @@ def heads_of(kind):
 
 def built(heads):
     """The KIND of which these are the heads."""
+    if len(heads) == 1:
+        return heads[0]
     done = []
     for head in heads[::-1]:
         if head == "pair":

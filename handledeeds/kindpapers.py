@@ -1,18 +1,18 @@
 """Papers of kinds: of each PLACE of a term its KIND and its ROSTER."""
 
-from handledeeds.kindheads import heads_of
-from handledeeds.kinds import put_in
-from handledeeds.kinds import put_in_roster
+from handledeeds.kindheads import built
+from handledeeds.kinds import renamed
 from handledeeds.kinds import renumbered
 from handledeeds.looker import looked
 
 
 def paper_of(term, sheet, *, known=()):
     """The list of triples (PLACE, KIND, ROSTER) of a term, as open as can be; Clash where there are none."""
-    triples = looked(term, sheet, known).triples()
+    looker = looked(term, sheet, known)
+    rows = [looker.found.whole_heads([node.kind, node.roster]) for node in looker.nodes]
     heads = []
-    for _, kind, roster in triples:
-        heads.extend(heads_of(kind))
-        heads.append(roster)
+    for row in rows:
+        heads.extend(row)
     kinds, tails = renumbered(heads)
-    return [(place, put_in(kind, kinds, tails), put_in_roster(roster, kinds, tails)) for place, kind, roster in triples]
+    told = [renamed(row, kinds, tails) for row in rows]
+    return [(node.place, built(row[:-1]), row[-1]) for node, row in zip(looker.nodes, told)]

@@ -56,15 +56,20 @@ def opens_of(kind):
 
 def put_in(kind, kinds, tails):
     """The kind with all these put in at once for what's open; what's in neither dict stays."""
-    heads = []
-    for head in heads_of(kind):
+    return built(renamed(heads_of(kind), kinds, tails))
+
+
+def renamed(heads, kinds, tails):
+    """Likewise of a row of heads, those of a kind that's put in being told one by one."""
+    told = []
+    for head in heads:
         if is_open(head):
-            heads.extend(heads_of(kinds.get(head[1], head)))
+            told.extend(heads_of(kinds.get(head[1], head)))
         elif is_roster_head(head):
-            heads.append(put_in_roster(head, kinds, tails))
+            told.append(put_in_roster(head, kinds, tails))
         else:
-            heads.append(head)
-    return built(heads)
+            told.append(head)
+    return told
 
 
 def put_in_roster(roster, kinds, tails):

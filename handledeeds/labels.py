@@ -22,11 +22,13 @@ def written_label(place, deed):
 
 def joined(labels, more):
     """The labels of both rows beside one another, as they rise."""
-    return tuple(sorted(labels + more))
+    return tuple(sorted(labels + more)) if more else labels
 
 
 def beyond(labels, other):
     """The labels of the first row that it has more than the other one, each as often."""
+    if not labels or labels == other:
+        return ()
     rest = list(labels)
     for label in other:
         if label in rest:

@@ -41,6 +41,9 @@ MODULUS = 997
 
 PAIR_PARTS = 60
 
+# Python may go this deep into tuples by calls within calls.
+NOT_DEEP = 200
+
 TREE_PARTS = 300
 
 TREE_DEPTH = 40

@@ -2,27 +2,34 @@
 
 from handledeeds.errors import Clash
 from handledeeds.errors import Unlike
+from handledeeds.faults import NEEDY
+from handledeeds.faults import fault
 from handledeeds.faults import first_fault
-from handledeeds.kindheads import heads_of
+from handledeeds.finder import Finder
 from handledeeds.kindheads import labels_in
+from handledeeds.kindheads import opens_in
 from handledeeds.kinds import opens_of
 from handledeeds.kinds import put_in
+from handledeeds.rules import RULES
 from handledeeds.rules import Node
-from handledeeds.rules import keep_rule
 from handledeeds.rules import known_around
 from handledeeds.rules import let_out
 from handledeeds.rules import walk
 from handledeeds.rules import with_more
-from handledeeds.solver import Solver
 
 
 def looked(term, sheet, known):
     """The Looker that has found the kinds of a term; Clash where there are none."""
-    wrong = first_fault(term, sheet, known)
-    if wrong is not None:
-        raise Clash(wrong[0], wrong[1])
     looker = Looker(sheet)
-    walk(looker, looker.enter((), term, known_around(looker.own(known)), None))
+    around = known_around(looker.own(known)) if known else {}
+    try:
+        walk(looker, looker.enter((), term, around, None))
+    except Clash as clash:
+        # What isn't there is told first, also where it's behind the PLACE at which the look ended.
+        wrong = first_fault(term, sheet, known) if clash.why in ("kinds", "out") else None
+        if wrong is None:
+            raise
+        raise Clash(wrong[0], wrong[1]) from None
     return looker
 
 
@@ -31,12 +38,12 @@ class Looker:
 
     def __init__(self, sheet):
         self.deed_kinds = {deed: (handed, answered) for deed, handed, answered in sheet}
-        self.solver = Solver()
+        self.found = Finder()
         # In the order of places_of, as each is entered ahead of those within it.
         self.nodes = []
 
     def own(self, known):
-        """Known names with opens of the solver's own, which has made none of those handed in."""
+        """Known names with opens of the look's own, which has made none of those handed in."""
         told = []
         for name, kind in known:
             kinds, tails = opens_of(kind)
@@ -44,60 +51,81 @@ class Looker:
         return told
 
     def enter(self, place, form, around, roster):
-        """The Node of a PLACE, its KIND still open, its ROSTER a new one where it's None."""
-        kind = self.solver.new_kind()
-        if form[0] == "fun" or form[0] == "rec":
-            kind = ("fun", kind, self.solver.new_tail(), self.solver.new_kind())
+        """The Node of a PLACE, its ROSTER a new one where it's None; Clash where something isn't there."""
+        word = form[0]
+        why = fault(form, self.deed_kinds, around) if word in NEEDY else ""
+        if why != "":
+            raise Clash(place, why)
+        kind = None
+        if word == "fun" or word == "rec":
+            kind = ("fun", self.found.make_kind(), self.found.make_tail(), self.found.make_kind())
+        elif word == "handle" or word == "under":
+            kind = self.found.make_kind()
         if roster is None:
-            roster = self.solver.new_tail()
+            roster = self.found.make_tail()
         node = Node(place, form, around, kind, roster)
         self.nodes.append(node)
         return node
 
     def leave(self, node):
         """Keep the rule of a node; Clash where it can't be kept with those of all that's left so far."""
+        rule = RULES[node.word]
         try:
-            keep_rule(self, node)
+            rule(self, node)
         except Unlike:
             raise Clash(node.place, "kinds") from None
-        if let_out(self, node):
+        if node.word == "under" and let_out(self, node):
             raise Clash(node.place, "out")
 
-    def triples(self):
-        """The list of the triples (PLACE, KIND, ROSTER) of all PLACEs, as far as is found."""
-        return [(node.place, self.told(node.kind), self.solver.told_roster(node.roster)) for node in self.nodes]
-
     def same(self, kind, other):
-        self.solver.same(kind, other)
+        self.found.unite(kind, other)
 
     def same_roster(self, roster, other):
-        self.solver.same_roster(roster, other)
+        self.found.unite_rosters(roster, other)
 
-    def has_side(self, kind, side, part):
-        """A kind is a pair, of which this side is a part."""
-        other = self.solver.new_kind()
-        self.solver.same(kind, ("pair", part, other) if side == "first" else ("pair", other, part))
+    def settle(self, node, kind):
+        """The KIND of a node is this one."""
+        if node.kind is None:
+            node.kind = kind
+        else:
+            self.found.unite(node.kind, kind)
+
+    def wanted(self, node):
+        """The KIND of a node, still open where it wasn't told yet."""
+        if node.kind is None:
+            node.kind = self.found.make_kind()
+        return node.kind
+
+    def settle_side(self, node, kind, side):
+        """The KIND of a node is this side of a kind, which is a pair."""
+        part = self.wanted(node)
+        other = self.found.make_kind()
+        self.found.unite(kind, ("pair", part, other) if side == "first" else ("pair", other, part))
+
+    def settle_use(self, node, meaning):
+        """The KIND of a node is that of a name, with something new for all that may be something else."""
+        self.settle(node, self.renewed(*meaning))
 
     def has_label(self, roster, label):
         """A roster has a label."""
-        self.solver.same_roster(roster, with_more(self.solver.new_tail(), (label,)))
-
-    def uses(self, kind, meaning):
-        """A kind is that of a name, with something new for all that may be something else."""
-        self.solver.same(kind, self.renewed(*meaning))
+        if label not in roster[0]:
+            self.found.unite_rosters(roster, with_more(self.found.make_tail(), (label,)))
 
     def renewed(self, kind, kinds, tails):
         """The kind with new opens for these."""
-        new_kinds = {n: self.solver.new_kind() for n in kinds}
-        new_tails = {n: self.solver.new_tail() for n in tails}
+        if not kinds and not tails:
+            return kind
+        new_kinds = {n: self.found.make_kind() for n in kinds}
+        new_tails = {n: self.found.make_tail() for n in tails}
         return put_in(kind, new_kinds, new_tails)
 
     def told(self, kind):
-        return self.solver.told(kind)
+        return self.found.whole_kind(kind)
 
-    def opens(self, kind, roster):
-        return self.solver.opens(kind, roster)
+    def opens(self, parts):
+        """opens_of of KINDs and ROSTERs, one behind the other, as they're told."""
+        return opens_in(self.found.first_heads(parts))
 
-    def labels(self, kind, roster):
-        """The list of all LABELs that stand in both."""
-        return labels_in(heads_of(self.told(kind)) + [self.solver.told_roster(roster)])
+    def labels(self, parts):
+        """The list of all LABELs that stand in these."""
+        return labels_in(self.found.first_heads(parts))

@@ -16,13 +16,30 @@ from handledeeds.shapes import inner
 from handledeeds.shapes import is_called_key
 from handledeeds.shapes import with_keys
 
+# Around all parts of these stands what stands around the whole, and they have its ROSTER.
+PLAIN = {
+    "call": True,
+    "op": True,
+    "if": True,
+    "two": True,
+    "first": True,
+    "second": True,
+    "ask": True,
+    "askof": True,
+}
+
 
 class Node:
-    """A PLACE of a term, with its KIND, its ROSTER, and the Nodes of the parts come to so far."""
+    """A PLACE of a term, with its KIND, its ROSTER, and the Nodes of the parts come to so far.
+
+    The KIND is None where it's known no sooner than the rule of the PLACE is kept.
+    """
 
     def __init__(self, place, form, around, kind, roster):
         self.place = place
         self.form = form
+        self.word = form[0]
+        self.parts = inner(form)
         self.around = around
         self.kind = kind
         self.roster = roster
@@ -34,15 +51,20 @@ def walk(judge, top):
     path = [top]
     while path:
         node = path[-1]
-        parts = inner(node.form)
         at = len(node.within)
-        if at < len(parts):
-            part = judge.enter((*node.place, at), parts[at], part_around(judge, node, at), part_roster(node, at))
-            node.within.append(part)
-            path.append(part)
-        else:
+        if at == len(node.parts):
             judge.leave(node)
             path.pop()
+            continue
+        around, roster = node.around, node.roster
+        if node.word not in PLAIN:
+            around, roster = part_around(judge, node, at), part_roster(node, at)
+        part = judge.enter((*node.place, at), node.parts[at], around, roster)
+        node.within.append(part)
+        if part.parts:
+            path.append(part)
+        else:
+            judge.leave(part)
 
 
 def known_around(known):
@@ -60,7 +82,7 @@ def part_around(judge, node, at):
 
 def meanings(judge, node, at):
     """What the keys that a node binds in a part of it stand for."""
-    word = node.form[0]
+    word = node.word
     if word == "fun":
         return [fixed(node.kind[1])]
     if word == "rec":
@@ -79,28 +101,30 @@ def meanings(judge, node, at):
 
 def fixed(kind):
     """What a name of a KIND stands for, of which nothing may be something else."""
-    return (kind, [], [])
+    return (kind, (), ())
 
 
 def let_meaning(judge, node):
     """What the name of a let stands for."""
     made = node.within[0]
-    if made.form[0] not in ("num", "name", "fun", "rec"):
+    if made.word not in ("name", "fun", "rec"):
         return fixed(made.kind)
     kind = judge.told(made.kind)
     kinds, tails = opens_of(kind)
+    if not kinds and not tails:
+        return fixed(kind)
     held_kinds, held_tails = held(judge, node)
     return (kind, [n for n in kinds if n not in held_kinds], [n for n in tails if n not in held_tails])
 
 
 def held(judge, node):
     """The pair of dicts of what's open in the ROSTER of a node and around it, and can't be something else."""
-    kinds, tails = judge.opens("number", node.roster)
+    kinds, tails = judge.opens([node.roster])
     kinds = {n: True for n in kinds}
     tails = {n: True for n in tails}
     for key, meaning in node.around.items():
-        if not is_called_key(key):
-            open_kinds, open_tails = judge.opens(meaning[0], ((), None))
+        if not is_called_key(key) and meaning[0] != "number":
+            open_kinds, open_tails = judge.opens([meaning[0]])
             kinds.update({n: True for n in open_kinds if n not in meaning[1]})
             tails.update({n: True for n in open_tails if n not in meaning[2]})
     return (kinds, tails)
@@ -108,7 +132,7 @@ def held(judge, node):
 
 def part_roster(node, at):
     """The ROSTER of a part of a node; None where that's a new one."""
-    word = node.form[0]
+    word = node.word
     if word == "fun" or word == "rec":
         return node.kind[2]
     if word == "past" or word == "pastof":
@@ -128,20 +152,21 @@ def with_more(roster, labels):
 def clause_labels(node):
     """The LABELs that T of an answerer may ask for more."""
     deeds = tuple(clause_deeds(node.form))
-    if node.form[0] == "handle":
+    if node.word == "handle":
         return deeds
     return tuple([written_label(node.place, deed) for deed in deeds])
 
 
-# The rules of a PLACE itself, its parts being left: what's asked of the judge, in this order.
+# The rules of a PLACE itself, its parts being left: what's asked of the judge, in this order. A judge
+# keeps that of RULES, by the word of the node, as it leaves it, and asks of an under whether it's let_out.
 
 
 def num_rule(judge, node):
-    judge.same(node.kind, "number")
+    judge.settle(node, "number")
 
 
 def name_rule(judge, node):
-    judge.uses(node.kind, node.around[node.form[1]])
+    judge.settle_use(node, node.around[node.form[1]])
 
 
 def fun_rule(judge, node):
@@ -150,31 +175,33 @@ def fun_rule(judge, node):
 
 def call_rule(judge, node):
     called, handed = node.within
-    judge.same(called.kind, ("fun", handed.kind, node.roster, node.kind))
+    judge.same(called.kind, ("fun", handed.kind, node.roster, judge.wanted(node)))
 
 
 def let_rule(judge, node):
-    judge.same(node.kind, node.within[1].kind)
+    judge.settle(node, node.within[1].kind)
 
 
 def op_rule(judge, node):
-    for each in [*node.within, node]:
-        judge.same(each.kind, "number")
+    for part in node.within:
+        judge.same(part.kind, "number")
+    judge.settle(node, "number")
 
 
 def if_rule(judge, node):
-    judge.same(node.within[0].kind, "number")
-    for part in node.within[1:]:
-        judge.same(node.kind, part.kind)
+    asked_part, chosen, other = node.within
+    judge.same(asked_part.kind, "number")
+    judge.settle(node, chosen.kind)
+    judge.same(node.kind, other.kind)
 
 
 def two_rule(judge, node):
     first, second = node.within
-    judge.same(node.kind, ("pair", first.kind, second.kind))
+    judge.settle(node, ("pair", first.kind, second.kind))
 
 
 def side_rule(judge, node):
-    judge.has_side(node.within[0].kind, node.form[0], node.kind)
+    judge.settle_side(node, node.within[0].kind, node.form[0])
 
 
 def ask_rule(judge, node):
@@ -190,7 +217,7 @@ def asked(judge, node, deed, label):
     """The rule of a deed that's asked, as this LABEL."""
     handed, answered = judge.deed_kinds[deed]
     judge.same(node.within[0].kind, handed)
-    judge.same(node.kind, answered)
+    judge.settle(node, answered)
     judge.has_label(node.roster, label)
 
 
@@ -206,7 +233,7 @@ def pastof_rule(judge, node):
 def passed(judge, node, labels):
     """The rule of a term whose asks of these LABELs pass an answerer."""
     part = node.within[0]
-    judge.same(node.kind, part.kind)
+    judge.settle(node, part.kind)
     judge.same_roster(node.roster, with_more(part.roster, labels))
 
 
@@ -218,7 +245,7 @@ def answerer_rule(judge, node):
 
 def ward_rule(judge, node):
     guarded, cleaning = node.within
-    judge.same(node.kind, guarded.kind)
+    judge.settle(node, guarded.kind)
     judge.same(cleaning.kind, "number")
 
 
@@ -244,18 +271,10 @@ RULES = {
 }
 
 
-def keep_rule(judge, node):
-    """Have the judge keep the rule of a node that is left, all parts of it being left; Unlike."""
-    rule = RULES[node.form[0]]
-    rule(judge, node)
-
-
 def let_out(judge, node):
     """Whether LABELs of an under stand where they mayn't: around it, in its KIND or in its ROSTER."""
-    if node.form[0] != "under":
-        return False
-    labels = judge.labels(node.kind, node.roster)
+    labels = judge.labels([node.kind, node.roster])
     for key, meaning in node.around.items():
         if not is_called_key(key):
-            labels.extend(judge.labels(meaning[0], ((), None)))
+            labels.extend(judge.labels([meaning[0]]))
     return any([label in labels for label in clause_labels(node)])

@@ -1,8 +1,7 @@
 """A solver of KINDs and ROSTERs."""
 
+from handledeeds.errors import Unlike
 from handledeeds.finder import Finder
-from handledeeds.kindheads import built
-from handledeeds.kindheads import heads_of
 from handledeeds.kindheads import opens_in
 from handledeeds.labels import joined
 
@@ -23,16 +22,22 @@ class Solver:
 
     def same(self, kind, other):
         """From now on both kinds are the same; Unlike, and nothing is found, where they can't be."""
-        # Tried with a copy, as the first half may be found ahead of a refusal.
-        found = self._found.copied()
-        found.unite(kind, other)
-        self._found = found
+        # What's found ahead of a refusal is taken back.
+        mark = self._found.mark()
+        try:
+            self._found.unite(kind, other)
+        except Unlike:
+            self._found.back_to(mark)
+            raise
 
     def same_roster(self, roster, other):
         """From now on both rosters are the same; Unlike, and nothing is found, where they can't be."""
-        found = self._found.copied()
-        found.unite_rosters(roster, other)
-        self._found = found
+        mark = self._found.mark()
+        try:
+            self._found.unite_rosters(roster, other)
+        except Unlike:
+            self._found.back_to(mark)
+            raise
 
     def close(self, roster):
         """Close the tail of a roster, so that it has no more labels."""
@@ -47,7 +52,7 @@ class Solver:
 
     def told(self, kind):
         """The kind, as far as is found."""
-        return built(self._found.whole_heads(heads_of(kind)))
+        return self._found.whole_kind(kind)
 
     def told_roster(self, roster):
         """The roster, as far as is found."""
@@ -55,7 +60,7 @@ class Solver:
 
     def opens(self, kind, roster):
         """opens_of of both as they're told, the kind ahead."""
-        return opens_in(self._found.first_heads(heads_of(kind) + [roster]))
+        return opens_in(self._found.first_heads([kind, roster]))
 
     def like(self):
         """A Solver of its own that is the same, and goes on alike."""

@@ -184,8 +184,12 @@ class LanguageTest(unittest.TestCase):
         for name, node in nodes(ast.ExceptHandler):
             for caught in node.type.elts if isinstance(node.type, ast.Tuple) else [node.type]:
                 self.assertIn(caught.id, own, name)
+        handled = [raised for _, handler in nodes(ast.ExceptHandler) for raised in ast.walk(handler)]
         for name, node in nodes(ast.Raise):
-            self.assertIn(node.exc.func.id, own, name)
+            if node.exc is None:
+                self.assertIn(node, handled, name)
+            else:
+                self.assertIn(node.exc.func.id, own, name)
 
     def test_l22_l23_builtins(self):
         once = ("zip", "enumerate", "reversed", "range")
