@@ -48,7 +48,7 @@ class Checker:
         self.entered = 0
         self.largest = 0
         # Rows of labels that were seen to be such.
-        self.rows = {}
+        self.rows = {(): True}
 
     def enter(self, place, form, around, roster):
         """The Node of a PLACE by the paper, its ROSTER this one, or any where that's None; Unlike."""
@@ -59,8 +59,9 @@ class Checker:
         if type(triple) is not tuple or len(triple) != 3 or not is_place(triple[0], place):
             raise Unlike()
         _, kind, shown_roster = triple
-        if not self.is_roster(shown_roster) or roster is not None and roster != shown_roster:
+        if not is_roster_shape(shown_roster) or roster is not None and roster != shown_roster:
             raise Unlike()
+        self.check_row(shown_roster[0])
         if type(kind) is not str or kind != "number":
             self.check_kind(kind)
         # What's within a fun or a rec is asked for as its parts are entered, ahead of its rule.
@@ -80,24 +81,20 @@ class Checker:
             if part[0] == "pair":
                 waiting.extend(part[1:])
             elif part[0] == "fun":
-                if not self.is_roster(part[2]):
+                if not is_roster_shape(part[2]):
                     raise Unlike()
+                self.check_row(part[2][0])
                 waiting.append(part[1])
                 waiting.append(part[3])
         if parts > self.largest:
             self.largest = parts
 
-    def is_roster(self, thing):
-        """Whether a thing is a ROSTER, of however many labels."""
-        if not is_roster_shape(thing):
-            return False
-        row = thing[0]
-        if len(row) == 0 or row in self.rows:
-            return True
-        if not are_labels(row):
-            return False
-        self.rows[row] = True
-        return True
+    def check_row(self, row):
+        """A row of texts, however many, is one of labels that don't fall; Unlike."""
+        if row not in self.rows:
+            if not are_labels(row):
+                raise Unlike()
+            self.rows[row] = True
 
     def leave(self, node):
         """Tell whether the rule of a node is kept; Unlike."""
@@ -163,7 +160,12 @@ class Checker:
 def is_place(thing, place):
     """Whether a thing is this PLACE."""
     # True is 1 to Python, but no number of a PLACE.
-    return type(thing) is tuple and all([type(step) is int for step in thing]) and thing == place
+    if type(thing) is not tuple:
+        return False
+    for step in thing:
+        if type(step) is not int:
+            return False
+    return thing == place
 
 
 def heads_in(parts):

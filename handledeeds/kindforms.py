@@ -15,7 +15,10 @@ def is_roster_shape(thing):
     row, tail = thing
     if tail is not None and (type(tail) is not int or tail < 0):
         return False
-    return len(row) == 0 or all([type(label) is str for label in row])
+    for label in row:
+        if type(label) is not str:
+            return False
+    return True
 
 
 def are_labels(row):

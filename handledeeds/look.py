@@ -1,19 +1,16 @@
 """A look at programs: their KINDs and ROSTERs, as open as can be."""
 
-from handledeeds.kindheads import built
-from handledeeds.kinds import renamed
-from handledeeds.kinds import renumbered
 from handledeeds.looker import looked
+from handledeeds.settler import Settler
 
 
 def look(term, sheet, *, known=()):
     """The pair (KIND, ROSTER) of a term, settled; Clash where there is none."""
     looker = looked(term, sheet, known)
+    settler = Settler(looker.found)
     top = looker.nodes[0]
-    heads = looker.found.whole_heads([top.kind, top.roster])
-    kinds, tails = renumbered(heads)
-    told = renamed(heads, kinds, tails)
-    return (built(told[:-1]), told[-1])
+    kind = settler.settled_kind(top.kind)
+    return (kind, settler.settled_roster(top.roster))
 
 
 def kind_of(term, sheet, *, known=()):

@@ -9,12 +9,10 @@ tails that may be something else at each use), of an answerer its LABELs by deed
 from handledeeds.kinds import opens_of
 from handledeeds.labels import joined
 from handledeeds.labels import written_label
-from handledeeds.shapes import bindings
 from handledeeds.shapes import called_key
 from handledeeds.shapes import clause_deeds
 from handledeeds.shapes import inner
 from handledeeds.shapes import is_called_key
-from handledeeds.shapes import with_keys
 
 # Around all parts of these stands what stands around the whole, and they have its ROSTER.
 PLAIN = {
@@ -74,29 +72,31 @@ def known_around(known):
 
 def part_around(judge, node, at):
     """What stands around a part of a node, the parts ahead of it being left."""
-    keys = bindings(node.form)[at]
-    if not keys:
-        return node.around
-    return with_keys(node.around, keys, meanings(judge, node, at))
-
-
-def meanings(judge, node, at):
-    """What the keys that a node binds in a part of it stand for."""
     word = node.word
+    form = node.form
     if word == "fun":
-        return [fixed(node.kind[1])]
+        return {**node.around, form[1]: fixed(node.kind[1])}
     if word == "rec":
-        return [fixed(node.kind), fixed(node.kind[1])]
-    if word == "let":
-        return [let_meaning(judge, node)]
-    # Answerers are left.
-    if at == 0:
-        return [dict(zip(clause_deeds(node.form), clause_labels(node)))]
+        return {**node.around, form[1]: fixed(node.kind), form[2]: fixed(node.kind[1])}
+    if word == "let" and at == 1:
+        return {**node.around, form[1]: let_meaning(judge, node)}
+    if word == "under" and at == 0:
+        return {**node.around, called_key(form[1]): dict(zip(clause_deeds(form), clause_labels(node)))}
+    if at == 0 or word == "ward":
+        return node.around
     if at == 1:
-        return [fixed(node.within[0].kind)]
-    handed, answered = judge.deed_kinds[node.form[4][at - 2][0]]
+        return {**node.around, form[3][0]: fixed(node.within[0].kind)}
+    return clause_around(judge, node, form[4][at - 2])
+
+
+def clause_around(judge, node, clause):
+    """What stands around V of a clause of a node, an answerer."""
+    deed, how, x, k, _ = clause
+    handed, answered = judge.deed_kinds[deed]
+    if how != "many":
+        return {**node.around, x: fixed(handed)}
     told_by = node.within[0] if node.form[1] == "shallow" else node
-    return [fixed(handed), fixed(("fun", answered, told_by.roster, told_by.kind))]
+    return {**node.around, x: fixed(handed), k: fixed(("fun", answered, told_by.roster, told_by.kind))}
 
 
 def fixed(kind):
