@@ -1,11 +1,12 @@
 """Whether a thing is the rows of a program, and of which."""
 
+from handledeeds.errors import NoAnswerer
+from handledeeds.errors import NoName
 from handledeeds.rowforms import is_row
 from handledeeds.rowreader import RowReader
 from handledeeds.rows import rows_of
 from handledeeds.rowtakers import takes
 from handledeeds.same import is_same
-from handledeeds.terms import free_keys
 
 
 def term_of(thing):
@@ -27,7 +28,8 @@ def are_rows(thing):
 
 def are_rows_of(term, thing):
     """Whether a thing is just the rows of a term."""
-    # A program in which something stands for nothing has no rows.
-    if free_keys(term):
+    try:
+        return is_same(thing, rows_of(term))
+    except (NoName, NoAnswerer):
+        # A program in which something stands for nothing has no rows.
         return False
-    return is_same(thing, rows_of(term))

@@ -47,6 +47,14 @@ FIRST_INNER = {
     "ward": 1,
 }
 
+BINDERS = {
+    "fun": True,
+    "rec": True,
+    "let": True,
+    "handle": True,
+    "under": True,
+}
+
 NOTHING_BOUND = ((), (), ())
 
 

@@ -8,7 +8,7 @@ from handledeeds.errors import NoPlace
 from handledeeds.forms import is_form
 from handledeeds.limits import TERM_DEPTH
 from handledeeds.limits import TERM_PARTS
-from handledeeds.shapes import NOTHING_BOUND
+from handledeeds.shapes import BINDERS
 from handledeeds.shapes import bindings
 from handledeeds.shapes import bones
 from handledeeds.shapes import inner
@@ -120,12 +120,15 @@ def free_keys(term):
     waiting = [(term, ())]
     while waiting:
         part, bound = waiting.pop()
-        found.extend([key for key in uses(part) if key not in bound])
-        keys = bindings(part)
-        if keys == NOTHING_BOUND:
-            waiting.extend([(within, bound) for within in inner(part)])
+        word = part[0]
+        if word == "name":
+            if part[1] not in bound:
+                found.append(part[1])
+        elif word in BINDERS:
+            waiting.extend([(within, bound + more) for within, more in zip(inner(part), bindings(part))])
         else:
-            waiting.extend([(within, bound + more) for within, more in zip(inner(part), keys)])
+            found.extend([key for key in uses(part) if key not in bound])
+            waiting.extend([(within, bound) for within in inner(part)])
     return found
 
 
