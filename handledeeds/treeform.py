@@ -2,19 +2,27 @@
 
 from handledeeds.limits import TREE_DEPTH
 from handledeeds.limits import TREE_PARTS
+from handledeeds.shapes import BINDERS
 from handledeeds.shapes import bindings
+from handledeeds.shapes import called_key
 from handledeeds.shapes import inner
-from handledeeds.shapes import is_called_key
 from handledeeds.shapes import rebuilt
-from handledeeds.shapes import uses
 
 # What is told of a place that can't be told, and with that nothing of the whole.
 NOTHING = ("num", 0)
 
+# The words of frames of which no TERM is told.
+UNTOLD = {
+    "under": True,
+    "waits": True,
+    "cleaned": True,
+    "cleans": True,
+}
+
 
 def tree_of(now, frames):
     """The TERM of what is now at a PLACE and of the frames around it; None where there's none."""
-    if len(frames) >= TREE_DEPTH:
+    if len(frames) >= TREE_DEPTH or any([frame[0] in UNTOLD for frame in frames]):
         return None
     teller = Teller()
     depth = len(frames) + 1
@@ -41,22 +49,30 @@ class Teller:
 
     def tell(self, term, scope, depth):
         """The TERM with what its free names stand for put in."""
-        if term[0] == "name" and term[1] in scope:
+        word = term[0]
+        if word == "name" and term[1] in scope:
             return self.tell_value(scope[term[1]], depth)
-        self.check_answerers(term, scope)
-        # No deeper than what may be told: few calls within calls.
         if not self.takes(depth):
             return NOTHING
+        if word == "num" or word == "name":
+            return term
+        # No deeper than what may be told: few calls within calls.
         return rebuilt(term, self.tell_parts(term, scope, 0, depth))
 
     def tell_parts(self, term, scope, first, depth):
         """Likewise the list of the TERMs straight within a term of this depth, from the first one on."""
-        parts = list(zip(inner(term), bindings(term)))[first:]
-        return [self.tell(part, without(scope, keys), depth + 1) for part, keys in parts]
+        word = term[0]
+        if word == "askof" or word == "pastof":
+            self.check_answerer(term[1], scope)
+        parts = inner(term)[first:]
+        if word not in BINDERS:
+            return [self.tell(part, scope, depth + 1) for part in parts]
+        hidden = bindings(term)[first:]
+        return [self.tell(part, without(scope, keys), depth + 1) for part, keys in zip(parts, hidden)]
 
-    def check_answerers(self, term, scope):
+    def check_answerer(self, called, scope):
         """No TERM tells of which very one it asks: an under that was come to."""
-        if any([is_called_key(key) and key in scope for key in uses(term)]):
+        if called_key(called) in scope:
             self.tells = False
 
     def tell_value(self, value, depth):
@@ -72,17 +88,16 @@ class Teller:
 
     def tell_frame(self, frame, tree, depth):
         """The TERM of a frame with a tree at the place that's come to."""
-        if frame[0] in ("under", "waits", "cleaned", "cleans") or not self.takes(depth):
-            self.tells = False
+        if not self.takes(depth):
             return NOTHING
         _, term, scope, told = frame
-        self.check_answerers(term, scope)
         ahead = [self.tell_value(value, depth + 1) for value in told]
         return rebuilt(term, [*ahead, tree, *self.tell_parts(term, scope, len(told) + 1, depth)])
 
 
 def without(scope, keys):
     """The scope without what these keys hide."""
-    if not any([key in scope for key in keys]):
-        return scope
-    return {key: scope[key] for key in scope if key not in keys}
+    for key in keys:
+        if key in scope:
+            return {other: scope[other] for other in scope if other not in keys}
+    return scope
