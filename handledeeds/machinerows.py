@@ -4,8 +4,8 @@ Each of these does the row that's next: True. Where the run is stuck or too long
 tells it, and all else stays: False.
 """
 
-from handledeeds.limits import MODULUS
 from handledeeds.limits import PAIR_PARTS
+from handledeeds.reckon import reckoned
 from handledeeds.things import Thing
 from handledeeds.things import is_thing
 from handledeeds.things import pair_thing
@@ -72,17 +72,8 @@ def op_row(state, row):
     first, second = state.stack[-2:]
     if type(first) is not int or type(second) is not int:
         return stuck(state, "number")
-    word = row[1]
-    if word == "plus":
-        number = first + second
-    elif word == "less":
-        number = first - second
-    elif word == "times":
-        number = first * second
-    else:
-        number = 1 if first < second else 0
     state.stack.pop()
-    state.stack[-1] = number % MODULUS
+    state.stack[-1] = reckoned(row[1], first, second)
     state.at += 1
     return True
 

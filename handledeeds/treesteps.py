@@ -1,7 +1,7 @@
 """The steps of a run of a tree."""
 
-from handledeeds.limits import MODULUS
 from handledeeds.limits import PAIR_PARTS
+from handledeeds.reckon import reckoned
 from handledeeds.shapes import called_key
 from handledeeds.shapes import clause_deeds
 from handledeeds.shapes import clause_keys
@@ -178,18 +178,7 @@ def let_step(state, frame, value):
 
 
 def op_step(state, frame, value):
-    first = frame[3][0][1]
-    second = value[1]
-    word = frame[1][1]
-    if word == "plus":
-        number = first + second
-    elif word == "less":
-        number = first - second
-    elif word == "times":
-        number = first * second
-    else:
-        number = 1 if first < second else 0
-    state.leave(("num", number % MODULUS))
+    state.leave(("num", reckoned(frame[1][1], frame[3][0][1], value[1])))
 
 
 def if_step(state, frame, value):

@@ -2,17 +2,24 @@
 
 import unittest
 
-from handledeeds.errors import BadText, Clash, NoAnswerer, NoName, NoPlace
+from handledeeds.desk import answers
+from handledeeds.errors import BadRow, BadText, Clash, NoAnswerer, NoName, NoPlace
+from handledeeds.joint import is_of, joined_of, record_of, shows_joined, shows_record, told_in
 from handledeeds.kindcheck import label_of, shows_kinds
 from handledeeds.kindpapers import paper_of
 from handledeeds.kinds import comes_of, is_kind, is_roster, is_sheet, opens_of, put_in, put_in_roster, settled
 from handledeeds.kindtext import kind_in, kind_text, roster_text
 from handledeeds.look import kind_of, look
+from handledeeds.machine import told_by
+from handledeeds.made import logged, stored, summed, tried
+from handledeeds.quick import quick_ones, quickened, slowed
+from handledeeds.rowcheck import are_rows, are_rows_of, term_of
 from handledeeds.rows import rows_of
 from handledeeds.terms import answerers_free, are_like, deeds_of, deep_of, is_term, is_value, names_free, part_at
 from handledeeds.terms import parts_of, places_of, put_at
 from handledeeds.termtext import term_in, text_of
 from handledeeds.treerun import told_of
+from handledeeds.weaving import is_weaving, picks_of, turns_of, weave, woven
 from tests.chance import SHEET
 from tests.samples import DEEP, ONE, TERMS, UNDER, X, frozen
 
@@ -58,13 +65,46 @@ for sample in [*TERMS, term_in("let i fun x x two call i ask get 1 i"), term_in(
     for function in (rows_of, told_of):
         ASKED.append((function, (sample,), ("term",)))
 ASKED.append((label_of, ((0, 2), "get"), ("place", "deed")))
+for sample in [*TERMS, term_in("ask get 1")]:
+    for function in (slowed, quickened, quick_ones, logged):
+        ASKED.append((function, (sample,), ("body",) if function is logged else ("term",)))
+    ASKED.append((stored, (sample, ONE), ("body", "first")))
+    ASKED.append((summed, (sample, 3), ("body", "many")))
+    ASKED.append((tried, (sample, sample), ("body", "other")))
+    ASKED.append((joined_of, (sample, SHEET), ("term", "sheet")))
+    if names_free(sample) or answerers_free(sample):
+        continue
+    ROWS = rows_of(sample)
+    for function in (term_of, are_rows):
+        ASKED.append((function, (ROWS,), ("thing",)))
+    ASKED.append((are_rows_of, (sample, ROWS), ("term", "thing")))
+    for function in (told_by, record_of):
+        ASKED.append((function, (ROWS,), ("rows",)))
+    ASKED.append((shows_record, (ROWS, record_of(ROWS)), ("rows", "thing")))
+    ASKED.append((turns_of, (("fun", "x", sample),), ("task",)))
+    ASKED.append((woven, ((("fun", "x", sample),) * 3,), ("tasks",)))
+JOINED = joined_of(term_in("plus 1 2"), SHEET)
+ASKED.append((shows_joined, (term_in("plus 1 2"), SHEET, JOINED), ("term", "sheet", "thing")))
+ASKED.append((told_in, (JOINED,), ("thing",)))
+TURNS = [[[1], [2, (3, "fun")]], [[], [4]]]
+for picks in ([], [0, 1, 0, 0], [5, 6, 7, 8, 9]):
+    ASKED.append((weave, (TURNS, picks), ("turns", "picks")))
+for thing in (None, [1, 4, 2, (3, "fun")], [4, 1, 2, [3, "fun"]], (1,), [True]):
+    ASKED.append((picks_of, (TURNS, thing), ("turns", "thing")))
+    ASKED.append((is_weaving, ([[1, 2, (3, "fun")], [4]], thing), ("rows", "thing")))
+    for function in (term_of, are_rows):
+        ASKED.append((function, (thing,), ("thing",)))
+    ASKED.append((shows_joined, (ONE, SHEET, thing), ("term", "sheet", "thing")))
+ASKED.append((is_of, ((1, "fun"), ("pair", "number", ("any", 0))), ("told", "kind")))
+for text in ("", "names\nundo", "names\n\nmore", "deed get number number\nstart ask get 1\ngo 0\ntrace 0\nanswer 0 997\ndrop f"):
+    ASKED.append((answers, (text,), ("text",)))
 
 
 def asked(function, *handed, **named):
     """What is told, or with what it's refused."""
     try:
         return ("told", function(*handed, **named))
-    except (BadText, Clash, NoAnswerer, NoName, NoPlace) as error:
+    except (BadRow, BadText, Clash, NoAnswerer, NoName, NoPlace) as error:
         return (error.__class__.__name__, sorted(vars(error).items()))
 
 
@@ -120,6 +160,11 @@ class PromisesTest(unittest.TestCase):
                 self.assertIs(type(function(term)), bool)
         for term in TERMS:
             self.assertIs(type(shows_kinds(term, SHEET, [])), bool)
+            self.assertIs(type(are_rows(term)), bool)
+            self.assertIs(type(are_rows_of(term, [])), bool)
+            self.assertIs(type(is_weaving([[1]], term)), bool)
+            self.assertIs(type(shows_record([("num", 1), ("end",)], term)), bool)
+            self.assertIs(type(shows_joined(term, SHEET, term)), bool)
         for term in TERMS:
             self.assertIs(type(are_like(term, DEEP)), bool)
 
