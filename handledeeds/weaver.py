@@ -8,8 +8,10 @@ place of that a weaver is called again, of what is kept and of the others.
 
 from handledeeds.limits import MODULUS
 
-# By how many tasks go on, less one.
+# By how many tasks go on, less one: what the weaver is called, and what, times this many, is 1 by 997.
 WEAVERS = ("wa", "wb", "wc", "wd")
+
+INVERSES = (1, 499, 665, 748)
 
 LIST = ("name", "p")
 
@@ -56,9 +58,9 @@ def list_with(many, at, others):
 
 def weaver(many):
     """The weaver of so many tasks."""
-    # Times this, numbers of one rest by many stand together: lowest those of rest 0, then those of the
-    # highest rest, and so on down to 1. So it's told by below alone which one is picked, without a call.
-    inverse = [n for n in range(MODULUS) if n * many % MODULUS == 1][0]
+    # Times the inverse, numbers of one rest by many stand together: lowest those of rest 0, then those of
+    # the highest rest, and so on down to 1. So by below alone it's told which one is picked, with no call.
+    inverse = INVERSES[many - 1]
     picked = ("op", "times", ("ask", "pick", ("num", many)), ("num", inverse))
     firsts = sorted([(rest * inverse % MODULUS, rest) for rest in range(many)])
     told = gone_on(many, firsts[-1][1])
