@@ -25,15 +25,38 @@ def answers(text, *, steps=STEPS):
 
 def answer_to(house, row, steps):
     """The answer to what a row says."""
-    word, *handed = row
     try:
-        if word == "go":
-            house.go(handed[0], steps=steps)
-            return outcome_text(house.outcome(handed[0]))
-        teller = TELLERS[word]
-        return teller(house, *handed)
-    except (BadAnswer, BadForm, Broken, Clash, NoName, NoRun, NotAsked, Round, TooMany, Used) as refusal:
-        return f"refused {refusal.__class__.__name__}"
+        return told_of_row(house, row, steps)
+    except BadAnswer:
+        return "refused BadAnswer"
+    except BadForm:
+        return "refused BadForm"
+    except Broken:
+        return "refused Broken"
+    except Clash:
+        return "refused Clash"
+    except NoName:
+        return "refused NoName"
+    except NoRun:
+        return "refused NoRun"
+    except NotAsked:
+        return "refused NotAsked"
+    except Round:
+        return "refused Round"
+    except TooMany:
+        return "refused TooMany"
+    except Used:
+        return "refused Used"
+
+
+def told_of_row(house, row, steps):
+    """The answer to what a row says, where it isn't refused."""
+    word, *handed = row
+    if word == "go":
+        house.go(handed[0], steps=steps)
+        return outcome_text(house.outcome(handed[0]))
+    teller = TELLERS[word]
+    return teller(house, *handed)
 
 
 def tell_define(house, name, term):

@@ -170,7 +170,7 @@ class LanguageTest(unittest.TestCase):
         self.assertEqual(stored & (METHODS - {"count", "index", "title", "find", "lower", "upper", "split", "strip", "copy"}), set())
         classes = [around.name for _, around in nodes(ast.ClassDef)]
         for name, node in nodes(ast.Attribute):
-            self.assertIn(node.attr, methods | stored | METHODS | {"__class__", "__name__"}, name)
+            self.assertIn(node.attr, methods | stored | METHODS, name)
             # A name that's both in two classes is read off no class.
             self.assertFalse(isinstance(node.value, ast.Name) and node.value.id in classes, name)
         for name, around in nodes(ast.ClassDef):
