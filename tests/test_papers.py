@@ -401,6 +401,18 @@ class LabelTest(unittest.TestCase):
         self.assertEqual(label_of((0,), "get"), "0:get")
         self.assertEqual(label_of(place=(5, 10, 0), deed="put"), "5.10.0:put")
 
+    def test_kinds_far_deeper_than_what_is_handed_in(self):
+        for word in ("two", "fun"):
+            term = ("num", 1)
+            for _ in range(700):
+                term = ("two", term, ("num", 1)) if word == "two" else ("fun", "x", term)
+            paper = paper_of(term, SHEET)
+            self.assertIs(shows_kinds(term, SHEET, paper), True)
+            place, _, roster = paper[-1]
+            self.assertIs(shows_kinds(term, SHEET, [*paper[:-1], (place, ("any", 0), roster)]), False)
+            place, kind, roster = paper[0]
+            self.assertIs(shows_kinds(term, SHEET, [(place, ("pair", kind, kind), roster), *paper[1:]]), False)
+
 
 if __name__ == "__main__":
     unittest.main()
