@@ -148,7 +148,7 @@ BAD_DEEDS = [
     ("do",), ("do", []), ("do", [], True, True), ("do", [], 1), ("do", [], 0), ("do", [], None), ("do", (), True), ("do", None, True),
     ("do", "", True), ("do", {}, True), ("do", [ONE, ("more",)], True), ("do", [("do", [("undo", 1)], True)], False), ("do", [None], True),
     ("do", [["undo"]], True), ("do", [ONE] * 13, True), ("do", [("do", [ONE] * 13, False)], False), None, True, 7, "undo", ["undo"],
-    (7,), (None,), (("undo",),), ("do", [("do", [("do", [], True)], True)], True), ("do", [("do", [("do", [ONE], True)], True)], True),
+    (7,), (None,), (("undo",),), ([],), (["undo"],), ("do", [("do", [("do", [], True)], True)], True), ("do", [("do", [("do", [ONE], True)], True)], True),
     ("twin",), ("names",), ("log",),
 ]
 

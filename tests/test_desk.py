@@ -103,7 +103,7 @@ BAD_ROWS = [
     "define fun 1", "define abcdefg 1", "define f 997", "define f fun x", "define f fun x x x", "define f (fun x x)", "define f fun  x x",
     "define f " + text_of(spread(121)), "define f " + "first " * 20 + "1", "drop", "drop F", "drop f g", "drop number", "start", "start ", "start +",
     "start 01", "go", "go -1", "go x", "go 00", "go 01", "go 10000", "go 0 5", "go 0.0", "answer", "answer 0", "answer 0 ", "answer x 1",
-    "answer 0 x", "answer 0 10000", "answer 0 -1", "answer 0 01", "answer 0 1 2", "answer 0 ( 1 )", "answer 0 ( 1 2", "answer 0 ( 1 2 3 )",
+    "answer 0 x", "answer 0 10000", "answer 0 -1", "answer 0 01", "answer 0 1 2", "answer 0 ( 1 )", "answer 0 ( 1 2", "answer 0 ( 1 2 3 )", "answer 0 ( 1 2 3", "answer 0 ( 1 2 (",
     "answer 0 (1 2)", "answer 0 ( 1 2 ) )", "answer 0 ( )", "answer 0 )", "answer 0 ( ( 1 2 ) )", "answer 0 ( 1 10000 )", "answer 0 ( 1 x )",
     "answer 0 (1,2)", "answer 0 ( 1 2 ) 3", "stop", "stop f", "stop 0 0", "undo 1", "kind", "kind 1", "kind f g", "needs", "runs 0", "outcome",
     "outcome f", "outcome 10000", "trace", "counts", "deeds 1", "deed", "term f", "whole f", "log", "do", "twin", "sheet", "undo\t", "names\r",

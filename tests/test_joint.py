@@ -152,7 +152,7 @@ class RecordTest(unittest.TestCase):
         four = (((1, 2), 3), 4)
         self.assertIs(shows_record(rows, [record[0], (2, ("answer", four)), (5, ("done", (four, 7)))]), True)
         # What answer doesn't let.
-        for value in (997, -1, True, None, "7", (1,), (1, 2, 3), [1, 2], (1, True), (four, 5), (1, 997), ()):
+        for value in (997, -1, True, None, "7", (1,), (1, 2, 3), [1, 2], (1, True), (four, 5), (1, (2, (3, (4, 5)))), (1, 997), ()):
             self.assertIs(shows_record(rows, [record[0], (2, ("answer", value)), (5, ("done", (value, 7)))]), False, value)
 
     def test_cut_and_more(self):

@@ -49,7 +49,8 @@ QUICK = [
     ("deep 1 x x 1 many get u k call u 1", None), ("deep 1 x x 1 many get u k call z u", None),
     ("deep 1 x x 1 many get u k call first k u", None), ("deep 1 x x 1 many get u k u", None),
     ("shallow 1 x x 1 many get u k call k u", None), ("deep 1 x x 1 end get u call u 1", None),
-    ("deep 1 x x 1 many get u k let y u call k y", None),
+    ("deep 1 x x 1 many get u k let y u call k y", None), ("deep 1 x x 1 many get u k two k u", None),
+    ("under h 1 x x 1 many get u k if k u 1", None),
     # Parts first.
     ("deep 1 x x 1 many get u k call k deep 1 x x 1 many get u k call k u", "deep 1 x x 1 quick get u deep 1 x x 1 quick get u u"),
     ("deep 1 x x 1 many get u k deep 1 x x 1 many get u z call z k", "deep 1 x x 1 many get u k deep 1 x x 1 quick get u k"),

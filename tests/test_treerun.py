@@ -105,6 +105,11 @@ RUNS = [
     # A past of what's kept stands in it, as often as it's gone on with.
     ("deep deep past get plus ask get 1 ask get 2 x x 1 quick get u 9 x x 1 many get u k call k plus u 10", done(23),
      [ask("get", 1), ask("get", 2)], (0, 2)),
+    # So does that of a shallow one, and where it isn't any more nothing is passed.
+    ("deep deep shallow past get plus ask put 1 ask get 2 x x 1 many put u k call k u x x 1 quick get u 9 x x 1 quick get u 8", done(9),
+     [ask("put", 1), ask("get", 2)], (0, 2)),
+    ("deep plus deep past get ask put 1 x x 1 many put u k call k u ask get 2 x x 1 quick get u 8", done(9), [ask("put", 1), ask("get", 2)], (0, 2)),
+    ("deep plus shallow past get ask put 1 x x 1 many put u k call k u ask get 2 x x 1 quick get u 8", done(9), [ask("put", 1), ask("get", 2)], (0, 2)),
     # ward
     ("ward 1 2", done(1), [clean(2)], (0, 0)), ("ward fun x x two 1 2", done("fun"), [clean((1, 2))], (0, 0)),
     ("ward ward 1 2 ward 3 4", done(1), [clean(2), clean(4), clean(3)], (0, 0)),
