@@ -84,11 +84,8 @@ class Looker:
         self.found.unite_rosters(roster, other)
 
     def settle(self, node, kind):
-        """The KIND of a node is this one."""
-        if node.kind is None:
-            node.kind = kind
-        else:
-            self.found.unite(node.kind, kind)
+        """The KIND of a node, of which none was told yet, is this one."""
+        node.kind = kind
 
     def wanted(self, node):
         """The KIND of a node, still open where it wasn't told yet."""

@@ -369,6 +369,18 @@ class ShowsTest(unittest.TestCase):
                            ("fun fun a1 [ ] a1 [ r1 ] fun a1 [ r1 ] a1", False)):
             self.shows(text, read([(place, kind if own == "K" else own, roster) for place, own, roster in rows]), told)
 
+    def test_kinds_within_kinds_that_are_none(self):
+        # What's handed stands nowhere else in the paper.
+        for handed, told in (("number", True), (("any", 0), True), (("pair", ("any", 7), "number"), True),
+                             (("fun", "number", (("get", "get"), 3), ("any", 2)), True), ("numbers", False), (None, False), (7, False), ((), False),
+                             (("any", True), False), (("any", -1), False), (("any", 0, 0), False), (("pair", "number"), False),
+                             (["any", 0], False), (("fun", "number", "number"), False), (("fun", "number", ((), None)), False),
+                             (("fun", "more", ((), None), "number"), False), (("fun", "number", ((), None), "more"), False),
+                             (("fun", "number", (("Get",), None), "number"), False), (("fun", "number", (("put", "get"), None), "number"), False),
+                             (("fun", "number", ((), True), "number"), False), (("fun", "number", ([], None), "number"), False),
+                             (("pair", ("pair", "number", ("any", False)), "number"), False), (("pair", "number", ("two", "number", "number")), False)):
+            self.shows("fun x 1", [((), ("fun", handed, ((), 1), "number"), ((), 0)), ((0,), "number", ((), 1))], told)
+
     def test_anything_is_answered(self):
         text = "deep ask get 1 x two x x 1 many get u k call k u"
         paper = paper_of(term_in(text), SHEET)

@@ -150,7 +150,7 @@ class TreeTermTest(unittest.TestCase):
             for times, told in ((36, True), (37, False)):
                 run = TreeRun(term_in(f"let p {pair} call rec f n if n let g call f less n 1 fun z g fun z p {times}"))
                 self.assertEqual(run.run(), ("done", "fun"))
-                self.assertEqual(run.term() is not None and deep_of(run.term()) == 40, told)
+                self.assertEqual(None if run.term() is None else deep_of(run.term()), 40 if told else None)
 
     def test_what_is_come_to_ahead_more_than_40_deep(self):
         for times, told in ((37, True), (38, False)):
@@ -159,7 +159,7 @@ class TreeTermTest(unittest.TestCase):
             while run.step():
                 trees.append(run.term())
             # The last two: ahead of the sum, and the pair.
-            self.assertEqual([tree is not None and (tree[0], deep_of(tree)) == ("two", 40) for tree in trees[-2:]], [told, told])
+            self.assertEqual([None if tree is None else (tree[0], deep_of(tree)) for tree in trees[-2:]], [("two", 40) if told else None] * 2)
 
     def test_far_beyond_the_bounds(self):
         # Of very many parts, if it were told.
