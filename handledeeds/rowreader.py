@@ -67,15 +67,17 @@ class RowReader:
     def go_on(self, until, sorts):
         """Whether the next part of the innermost TERM can be read, in which these are bound; it's next, then."""
         self.unbind()
-        self.opened[-1].base = len(self.whole)
-        self.opened[-1].until = until
+        opened = self.opened[-1]
+        opened.base = len(self.whole)
+        opened.until = until
         return self.binds(sorts)
 
     def binds(self, sorts):
         """Whether there are names for these; they're bound, then."""
         first = len(self.around)
         self.around.extend(sorts)
-        self.opened[-1].bound = NAMES[first:first + len(sorts)]
+        opened = self.opened[-1]
+        opened.bound = NAMES[first:first + len(sorts)]
         return len(self.around) <= len(NAMES)
 
     def unbind(self):

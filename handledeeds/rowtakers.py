@@ -77,9 +77,10 @@ def take_unname(reader, at, row):
 
 
 def take_to(reader, at, row):
-    if not ends(reader, "to") or reader.opened[-1].row[1] != at + 1:
+    opened = reader.opened[-1]
+    if not ends(reader, "to") or opened.row[1] != at + 1:
         return False
-    reader.opened[-1].at = row[1]
+    opened.at = row[1]
     return reader.go_on("", [])
 
 

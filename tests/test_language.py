@@ -173,6 +173,9 @@ class LanguageTest(unittest.TestCase):
             self.assertIn(node.attr, methods | stored | METHODS, name)
             # A name that's both in two classes is read off no class.
             self.assertFalse(isinstance(node.value, ast.Name) and node.value.id in classes, name)
+        for name, node in nodes(ast.Attribute):
+            if isinstance(node.ctx, ast.Store):
+                self.assertIsInstance(node.value, ast.Name, (name, node.attr))
         for name, around in nodes(ast.ClassDef):
             told = [node.name for node in around.body if isinstance(node, ast.FunctionDef)]
             self.assertEqual(len(told), len(set(told)), (name, around.name))
