@@ -230,12 +230,19 @@ class House:
 
     def _tell(self, deed):
         """Do a deed: what it tells."""
-        word, *handed = deed
-        if word == "do":
-            return self.do(deed[1], whole=deed[2])
-        ways = {
-            "define": self.define, "drop": self.drop, "start": self.start, "go": self.go, "answer": self.answer,
-            "stop": self.stop, "undo": self.undo,
-        }
-        way = ways[word]
-        return way(*handed)
+        word = deed[0]
+        if word == "define":
+            return self.define(deed[1], deed[2])
+        if word == "drop":
+            return self.drop(deed[1])
+        if word == "start":
+            return self.start(deed[1])
+        if word == "go":
+            return self.go(deed[1])
+        if word == "answer":
+            return self.answer(deed[1], deed[2])
+        if word == "stop":
+            return self.stop(deed[1])
+        if word == "undo":
+            return self.undo()
+        return self.do(deed[1], whole=deed[2])

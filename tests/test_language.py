@@ -255,6 +255,19 @@ class LanguageTest(unittest.TestCase):
             if isinstance(node.func, ast.Attribute):
                 self.assertIn(node.func.attr, METHODS | own, name)
 
+    def test_l25_no_method_is_handed_on(self):
+        called = set([node.func for _, node in nodes(ast.Call)])
+        stored = set([node.attr for _, node in nodes(ast.Attribute) if isinstance(node.ctx, ast.Store)])
+        classes = [around for _, around in nodes(ast.ClassDef)]
+        own = {around: set([node.name for node in around.body if isinstance(node, ast.FunctionDef)]) for around in classes}
+        methods = set().union(*own.values())
+        told = [node for _, node in nodes(ast.Attribute) if node.attr in methods - stored and node not in called]
+        # What's an attribute of another class may be read; not off an object of the class of which it's a method.
+        for around in classes:
+            read = [node for node in ast.walk(around) if isinstance(node, ast.Attribute) and node not in called]
+            told.extend([node for node in read if node.attr in own[around] and getattr(node.value, "id", "") == "self"])
+        self.assertEqual([(node.lineno, node.attr) for node in told], [])
+
     def test_l27_strings(self):
         for name, node in nodes(ast.Constant):
             if isinstance(node.value, str):
