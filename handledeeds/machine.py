@@ -4,7 +4,7 @@ from handledeeds.errors import NotAsked
 from handledeeds.limits import MOST
 from handledeeds.limits import STEPS
 from handledeeds.machineimage import image_of
-from handledeeds.machineimage import state_of
+from handledeeds.machineimage import stand_as
 from handledeeds.machinerows import do_rows
 from handledeeds.machinestate import MachineState
 from handledeeds.runs import run_answered
@@ -15,13 +15,17 @@ class Machine:
 
     def __init__(self, rows, *, most=MOST):
         self._state = MachineState(list(rows), most)
+        # The image, where it was told and nothing was done since.
+        self._told = None
 
     def go(self, *, steps=STEPS):
         """Do at most so many rows: how many were done."""
+        self._told = None
         return do_rows(self._state, steps)
 
     def run(self):
         """Do rows till none can be done: the outcome."""
+        self._told = None
         while do_rows(self._state, STEPS) > 0:
             pass
         return self.outcome()
@@ -34,6 +38,7 @@ class Machine:
         """Answer what is asked from without; NotAsked where the run doesn't wait."""
         if self.outcome()[0] != "asks":
             raise NotAsked()
+        self._told = None
         self._state.take_answer(value)
 
     def trace(self):
@@ -58,24 +63,34 @@ class Machine:
 
     def image(self):
         """All that is to be known of the machine beside its rows, as a tuple."""
-        return image_of(self._state)
+        if self._told is None:
+            self._told = image_of(self._state)
+            # So it's soon told that another one, made of this image, is the same.
+            stand_as(self._state, self._told)
+        return self._told
 
     def like(self):
         """A machine of its own, the same."""
         other = Machine([])
         other._state = self._state.copied()
+        other._told = self._told
         return other
 
     def __eq__(self, other):
         if not isinstance(other, Machine):
             return False
-        return self._state.rows == other._state.rows and self.image() == other.image()
+        state, others = self._state, other._state
+        if state.rows != others.rows or state.head() != others.head():
+            return False
+        # In images things that are mentioned no more don't count, nor the order in which they were made.
+        return state.rest() == others.rest() or image_of(state) == image_of(others)
 
 
 def machine_of(rows, image):
     """A machine of these rows that is as the one that told the image was."""
-    machine = Machine([])
-    machine._state = state_of(list(rows), image)
+    machine = Machine(rows)
+    machine._told = image
+    stand_as(machine._state, image)
     return machine
 
 

@@ -1,186 +1,181 @@
 """What a machine does, row by row.
 
-Each of these does the row that's next: True. Where the run is stuck or too long by that row the state
-tells it, and all else stays: False.
+Each of these does the row at a number, the stack being the state's own: it tells the number of the next
+row. Where the run is over by a row, or waits, the state tells so, and None is told; where it's stuck or too
+long all else stays.
 """
 
 from handledeeds.limits import PAIR_PARTS
 from handledeeds.reckon import reckoned
-from handledeeds.things import Thing
-from handledeeds.things import is_thing
-from handledeeds.things import pair_thing
+from handledeeds.things import form_of
+from handledeeds.things import make_thing
 from handledeeds.things import parts_of_thing
 from handledeeds.things import told_thing
 
 
 def do_rows(state, steps):
     """Do at most so many rows: how many were done."""
+    if state.status is not None:
+        return 0
+    rows, stack, at = state.rows, state.stack, state.at
     done = 0
-    while done < steps and state.status is None:
-        row = state.rows[state.at]
+    while done < steps:
+        row = rows[at]
         action = ACTIONS[row[0]]
-        if not action(state, row):
+        behind = action(state, row, at, stack)
+        if behind is None:
+            if state.status[0] == "asks":
+                at += 1
+            if state.status[0] in ("asks", "done"):
+                done += 1
             break
+        at = behind
         done += 1
+    state.at = at
     state.rows_done += done
     return done
 
 
 def stuck(state, word):
-    """The run is stuck by the row that's next."""
+    """The run is stuck by a row."""
     state.status = ("stuck", word)
-    return False
 
 
 def too_long(state):
-    """The run is too long by the row that's next."""
+    """The run is too long by a row."""
     state.status = ("long",)
-    return False
 
 
-def num_row(state, row):
-    state.stack.append(row[1])
-    state.at += 1
-    return True
+def num_row(state, row, at, stack):
+    stack.append(row[1])
+    return at + 1
 
 
-def get_row(state, row):
-    state.stack.append(state.scope[-1 - row[1]])
-    state.at += 1
-    return True
+def get_row(state, row, at, stack):
+    stack.append(state.scope[-1 - row[1]])
+    return at + 1
 
 
-def fun_row(state, row):
-    state.stack.append(Thing(row[0], (state.at + 1, state.scope)))
-    state.at = row[1]
-    return True
+def fun_row(state, row, at, stack):
+    stack.append(make_thing(state.things, row[0], (at + 1, state.scope)))
+    return row[1]
 
 
-def name_row(state, row):
-    state.scope = (*state.scope, state.stack.pop())
-    state.at += 1
-    return True
+def name_row(state, row, at, stack):
+    state.scope = (*state.scope, stack.pop())
+    return at + 1
 
 
-def unname_row(state, row):
+def unname_row(state, row, at, stack):
     state.scope = state.scope[:-1]
-    state.at += 1
-    return True
+    return at + 1
 
 
-def op_row(state, row):
-    first, second = state.stack[-2:]
+def op_row(state, row, at, stack):
+    first, second = stack[-2:]
     if type(first) is not int or type(second) is not int:
         return stuck(state, "number")
-    state.stack.pop()
-    state.stack[-1] = reckoned(row[1], first, second)
-    state.at += 1
-    return True
+    stack.pop()
+    stack[-1] = reckoned(row[1], first, second)
+    return at + 1
 
 
-def ifno_row(state, row):
-    if type(state.stack[-1]) is not int:
+def ifno_row(state, row, at, stack):
+    if type(stack[-1]) is not int:
         return stuck(state, "number")
-    state.at = row[1] if state.stack.pop() == 0 else state.at + 1
-    return True
+    return row[1] if stack.pop() == 0 else at + 1
 
 
-def to_row(state, row):
-    state.at = row[1]
-    return True
+def to_row(state, row, at, stack):
+    return row[1]
 
 
-def two_row(state, row):
-    first, second = state.stack[-2:]
-    if 1 + parts_of_thing(first) + parts_of_thing(second) > PAIR_PARTS:
+def two_row(state, row, at, stack):
+    first, second = stack[-2:]
+    parts = 1 + parts_of_thing(state.things, first) + parts_of_thing(state.things, second)
+    if parts > PAIR_PARTS:
         return too_long(state)
-    state.stack.pop()
-    state.stack[-1] = pair_thing(first, second)
-    state.at += 1
-    return True
+    stack.pop()
+    stack[-1] = make_thing(state.things, "pair", (first, second, parts))
+    return at + 1
 
 
-def side_row(state, row):
-    value = state.stack[-1]
-    if not is_thing(value, "pair"):
+def side_row(state, row, at, stack):
+    value = stack[-1]
+    if form_of(state.things, value) != "pair":
         return stuck(state, "pair")
-    state.stack[-1] = value.fields[0 if row[0] == "first" else 1]
-    state.at += 1
-    return True
+    stack[-1] = state.things[value[1]][1][0 if row[0] == "first" else 1]
+    return at + 1
 
 
-def call_row(state, row):
-    called, value = state.stack[-2:]
-    if type(called) is int or called.form == "pair":
+def call_row(state, row, at, stack):
+    called, value = stack[-2:]
+    form = form_of(state.things, called)
+    if form == "num" or form == "pair":
         return stuck(state, "call")
-    if called.form == "held":
-        return call_of_kept(state, called, value)
+    if form == "held":
+        return call_of_kept(state, called, value, at)
     if state.is_full():
         return too_long(state)
     state.calls += 1
-    state.stack.pop()
-    state.stack[-1] = ("back", state.at + 1, state.scope)
-    at, scope = called.fields
-    state.begin(at, (*scope, value) if called.form == "fun" else (*scope, called, value))
-    return True
+    stack.pop()
+    stack[-1] = ("back", at + 1, state.scope)
+    begin, scope = state.things[called[1]][1]
+    state.scope = (*scope, value) if form == "fun" else (*scope, called, value)
+    return begin
 
 
-def call_of_kept(state, held, value):
+def call_of_kept(state, held, value, at):
     """What is kept is called."""
     if state.is_worn():
         return too_long(state)
     state.stack.pop()
-    state.stack[-1] = ("back", state.at + 1, state.scope)
-    state.moves += len(held.fields[1])
-    state.go_on(held, value)
-    return True
+    state.stack[-1] = ("back", at + 1, state.scope)
+    state.moves += len(state.things[held[1]][1][1])
+    return state.go_on(held, value)
 
 
-def past_row(state, row):
+def past_row(state, row, at, stack):
     # Of a pastof nothing is passed: it's a matter of kinds alone.
     deed = row[1] if row[0] == "past" else None
     state.pasts[-1] = (*state.pasts[-1], deed)
-    state.at += 1
-    return True
+    return at + 1
 
 
-def unpast_row(state, row):
+def unpast_row(state, row, at, stack):
     state.pasts[-1] = state.pasts[-1][:-1]
-    state.at += 1
-    return True
+    return at + 1
 
 
-def handle_row(state, row):
-    _, way, _, _, at, behind = row
+def handle_row(state, row, at, stack):
+    _, way, _, _, begin, behind = row
     scope = state.scope
-    state.stack.append(("back", behind, scope))
+    stack.append(("back", behind, scope))
     number = None
     if way == "under":
         state.unders += 1
         number = -state.unders
         state.scope = (*scope, number)
-    state.answerers.append((state.at, scope, number, len(state.stack)))
+    state.answerers.append((at, scope, number, len(stack)))
     state.pasts.append(())
-    state.at = at
-    return True
+    return begin
 
 
-def leave_row(state, row):
-    if not state.answerers or state.answerers[-1][3] != len(state.stack) - 1:
+def leave_row(state, row, at, stack):
+    if not state.answerers or state.answerers[-1][3] != len(stack) - 1:
         # T of a shallow one that was gone on with: what it comes to is told to who went on with it.
-        return back_row(state, row)
-    mark, scope, _, _ = state.answerers.pop()
+        return back_row(state, row, at, stack)
+    answerer, scope, _, _ = state.answerers.pop()
     state.pasts.pop()
-    value = state.stack.pop()
-    state.begin(state.rows[mark][2], (*scope, value))
-    return True
+    state.scope = (*scope, stack.pop())
+    return state.rows[answerer][2]
 
 
-def ask_row(state, row):
+def ask_row(state, row, at, stack):
     if state.is_full():
         return too_long(state)
     deed = row[1]
-    value = state.stack.pop()
+    value = stack.pop()
     state.note_ask(deed, value)
     passes = 0
     for number in reversed(range(len(state.answerers))):
@@ -189,54 +184,52 @@ def ask_row(state, row):
         if answerer[2] is None:
             for clause in state.rows[answerer[0]][3]:
                 if clause[0] == deed and passes == 0:
-                    answer(state, number, clause, value)
-                    return True
+                    return answer(state, number, clause, value, at)
                 if clause[0] == deed:
                     passes -= 1
-    state.status = ("asks", deed, told_thing(value))
-    state.at += 1
-    return True
+    state.status = ("asks", deed, told_thing(state.things, value))
+    return None
 
 
-def askof_row(state, row):
+def askof_row(state, row, at, stack):
     _, k, deed = row
     called = state.scope[-1 - k]
     for number in reversed(range(len(state.answerers))):
         if state.answerers[number][2] == called:
             for clause in state.rows[state.answerers[number][0]][3]:
                 if clause[0] == deed:
-                    return askof_clause(state, number, clause)
+                    return askof_clause(state, number, clause, at)
             break
     return stuck(state, "answerer")
 
 
-def askof_clause(state, number, clause):
+def askof_clause(state, number, clause, at):
     """An askof is answered by this clause of an answerer."""
     if state.is_full():
         return too_long(state)
     value = state.stack.pop()
     state.note_ask(clause[0], value)
-    answer(state, number, clause, value)
-    return True
+    return answer(state, number, clause, value, at)
 
 
-def answer(state, number, clause, value):
-    """An answerer answers what is asked by the row that's next, by a clause of its own."""
+def answer(state, number, clause, value, at):
+    """An answerer answers what is asked by the row at a number, by a clause of its own."""
     _, how, place = clause
-    mark, scope, _, base = state.answerers[number]
+    _, scope, _, base = state.answerers[number]
     scope = (*scope, value)
     if how == "end":
         wards = [frame[1:] for frame in state.stack[base:] if type(frame) is tuple and frame[0] == "ward"]
         state.drop(number)
-        clean(state, tuple(wards[::-1]), place, scope)
-        return
-    held = state.taken(number)
+        return clean(state, tuple(wards[::-1]), place, scope)
+    pieces = len(state.answerers) - number
+    held = state.taken(number, at + 1)
     if how == "quick":
         state.stack.append(("waits", held))
-        state.begin(place, scope)
+        state.scope = scope
     else:
-        state.moves += len(held.fields[1])
-        state.begin(place, (*scope, held))
+        state.moves += pieces
+        state.scope = (*scope, held)
+    return place
 
 
 def clean(state, wards, at, scope):
@@ -244,49 +237,46 @@ def clean(state, wards, at, scope):
     if wards:
         state.stack.append(("cleans", wards[1:], at, scope))
         at, scope = wards[0]
-    state.begin(at, scope)
+    state.scope = scope
+    return at
 
 
-def ward_row(state, row):
-    state.stack.append(("ward", state.at + 1, state.scope))
-    state.at = row[1]
-    return True
+def ward_row(state, row, at, stack):
+    stack.append(("ward", at + 1, state.scope))
+    return row[1]
 
 
-def unward_row(state, row):
-    _, at, _ = state.stack[-2]
-    value = state.stack.pop()
-    state.stack[-1] = ("cleaned", value, state.at + 1)
-    state.at = at
-    return True
+def unward_row(state, row, at, stack):
+    _, begin, _ = stack[-2]
+    value = stack.pop()
+    stack[-1] = ("cleaned", value, at + 1)
+    return begin
 
 
-def back_row(state, row):
-    frame = state.stack[-2]
+def back_row(state, row, at, stack):
+    frame = stack[-2]
     word = frame[0]
+    if word == "back":
+        stack[-2:] = stack[-1:]
+        state.scope = frame[2]
+        return frame[1]
     if word == "waits" and state.is_worn():
         return too_long(state)
-    value = state.stack.pop()
-    state.stack.pop()
-    if word == "back":
-        state.stack.append(value)
-        state.begin(frame[1], frame[2])
-    elif word == "waits":
-        state.go_on(frame[1], value)
-    else:
-        state.events.append(("clean", told_thing(value)))
-        if word == "cleaned":
-            # Around U stands what stands around the ward.
-            state.stack.append(frame[1])
-            state.at = frame[2]
-        else:
-            clean(state, frame[1], frame[2], frame[3])
-    return True
+    value = stack.pop()
+    stack.pop()
+    if word == "waits":
+        return state.go_on(frame[1], value)
+    state.events.append(("clean", told_thing(state.things, value)))
+    if word == "cleaned":
+        # Around U stands what stands around the ward.
+        stack.append(frame[1])
+        return frame[2]
+    return clean(state, frame[1], frame[2], frame[3])
 
 
-def end_row(state, row):
-    state.status = ("done", told_thing(state.stack[-1]))
-    return True
+def end_row(state, row, at, stack):
+    state.status = ("done", told_thing(state.things, stack[-1]))
+    return None
 
 
 ACTIONS = {

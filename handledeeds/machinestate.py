@@ -1,7 +1,7 @@
 """Where a machine stands.
 
 What is still to do is a stack of VALUEs and frames, the innermost ones last, and a row of the answerers
-that were come to and not left. An answerer is (mark, scope, number, base): the number of its row, what
+that were come to and not left. An answerer is (row, scope, number, base): the number of its row, what
 stands around it, of an under its own number, else None, and where in the stack its piece begins.
 A frame is a tuple that begins with a word:
 
@@ -16,7 +16,7 @@ What stands around is a tuple of VALUEs, and of numbers of unders, the innermost
 below 0, so that they are none of the numbers that are VALUEs.
 """
 
-from handledeeds.things import Thing
+from handledeeds.things import make_thing
 from handledeeds.things import thing_of
 from handledeeds.things import told_thing
 
@@ -43,24 +43,41 @@ class MachineState:
         self.answerers = []
         # The deeds that are passed, outward of all answerers, then piece by piece; None of a pastof.
         self.pasts = [()]
+        # All things that were made, also those that no mark is left of.
+        self.things = []
 
     def copied(self):
         """A state of its own that is the same."""
         other = MachineState(self.rows, self.most)
-        other.status = self.status
-        other.events = list(self.events)
-        other.calls = self.calls
-        other.asked = self.asked
-        other.resumed = self.resumed
-        other.unders = self.unders
-        other.rows_done = self.rows_done
-        other.moves = self.moves
-        other.at = self.at
-        other.scope = self.scope
-        other.stack = list(self.stack)
-        other.answerers = list(self.answerers)
-        other.pasts = list(self.pasts)
+        other.set_head(*self.head())
+        other.set_rest(*self.rest())
         return other
+
+    def head(self):
+        """What an image tells as it stands: all but the rest, and the rows."""
+        counters = (self.calls, self.asked, self.resumed, self.unders, self.rows_done, self.moves)
+        return (self.most, self.at, self.status, counters, tuple(self.events))
+
+    def set_head(self, most, at, status, counters, events):
+        """From now on it has this head."""
+        self.most = most
+        self.at = at
+        self.status = status
+        self.calls, self.asked, self.resumed, self.unders, self.rows_done, self.moves = counters
+        self.events = list(events)
+
+    def rest(self):
+        """All that VALUEs stand in, and the things."""
+        return ((self.scope, tuple(self.stack), tuple(self.answerers), tuple(self.pasts)), tuple(self.things))
+
+    def set_rest(self, still, things):
+        """From now on it has this rest."""
+        scope, stack, answerers, pasts = still
+        self.scope = scope
+        self.stack = list(stack)
+        self.answerers = list(answerers)
+        self.pasts = list(pasts)
+        self.things = list(things)
 
     def is_full(self):
         """Whether a call or an ask more would be one too many."""
@@ -70,29 +87,24 @@ class MachineState:
         """Whether going on once more with what was left to do would be once too often."""
         return self.resumed >= 2 * self.most
 
-    def begin(self, at, scope):
-        """The row at is next, the scope around it."""
-        self.at = at
-        self.scope = scope
-
     def note_ask(self, deed, value):
         """A deed is asked."""
         self.asked += 1
-        self.events.append(("ask", deed, told_thing(value)))
+        self.events.append(("ask", deed, told_thing(self.things, value)))
 
     def take_answer(self, value):
         """What is asked from without is answered."""
         self.status = None
-        self.stack.append(thing_of(value))
+        self.stack.append(thing_of(self.things, value))
 
-    def taken(self, number):
-        """What is left to do behind the row that's done now, from an answerer on, taken out of all there is."""
+    def taken(self, number, at):
+        """What is left to do, the row at being next, from an answerer on: taken out of all there is, its mark."""
         base = self.answerers[number][3]
-        answerers = tuple([(mark, scope, under, at - base) for mark, scope, under, at in self.answerers[number:]])
+        answerers = [(row, scope, under, start - base) for row, scope, under, start in self.answerers[number:]]
         stack = tuple(self.stack[base:])
         pasts = tuple(self.pasts[number + 1:])
         self.drop(number)
-        return Thing("held", (stack, answerers, pasts, self.at + 1, self.scope))
+        return make_thing(self.things, "held", (stack, tuple(answerers), pasts, at, self.scope))
 
     def drop(self, number):
         """All pieces from an answerer on are gone."""
@@ -101,16 +113,17 @@ class MachineState:
         del self.pasts[number + 1:]
 
     def go_on(self, held, value):
-        """What was left to do is gone on with by a VALUE."""
-        stack, answerers, pasts, at, scope = held.fields
+        """What was left to do is gone on with by a VALUE: the row that's next."""
+        stack, answerers, pasts, at, scope = self.things[held[1]][1]
         base = len(self.stack)
         # A shallow one doesn't stand around what's left of its T.
         first = 1 if self.rows[answerers[0][0]][1] == "shallow" else 0
         if first == 1:
             self.pasts[-1] = self.pasts[-1] + pasts[0]
         self.resumed += 1
-        self.stack.extend(list(stack))
+        self.stack.extend(stack)
         self.stack.append(value)
-        self.answerers.extend([(mark, around, under, base + start) for mark, around, under, start in answerers[first:]])
-        self.pasts.extend(list(pasts[first:]))
-        self.begin(at, scope)
+        self.answerers.extend([(row, around, under, base + start) for row, around, under, start in answerers[first:]])
+        self.pasts.extend(pasts[first:])
+        self.scope = scope
+        return at

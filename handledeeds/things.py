@@ -1,7 +1,7 @@
 """VALUEs of a machine.
 
-A VALUE is a number, or a Thing. A Thing is one and the same wherever it's mentioned, and is never
-changed, so that it's told once in an image however often it's mentioned. Its fields, by its form:
+A VALUE is a number, or the mark of a thing: (MARK, n), n being the thing's number among all that were made.
+Things are pairs (form, fields), never changed, that stand in images as they are. Fields, by the form:
 
 - "pair": (first, second, parts);
 - "fun", "rec": (at, scope), the row where its T begins, and what stands around it;
@@ -9,42 +9,44 @@ changed, so that it's told once in an image however often it's mentioned. Its fi
   answer. Of a machine's state (there it's told what these are) it's what was taken out of it.
 """
 
-
-class Thing:
-    """A VALUE that isn't a number."""
-
-    def __init__(self, form, fields):
-        self.form = form
-        self.fields = fields
+# Neither a NAME nor the word of a frame: nothing else in a machine begins so.
+MARK = "*"
 
 
-def is_thing(value, form):
-    """Whether a VALUE is a Thing of this form."""
-    return type(value) is Thing and value.form == form
+def make_thing(things, form, fields):
+    """Make a thing: its mark."""
+    things.append((form, fields))
+    return (MARK, len(things) - 1)
 
 
-def parts_of_thing(value):
+def form_of(things, value):
+    """The form of a VALUE, of a number "num"."""
+    return "num" if type(value) is int else things[value[1]][0]
+
+
+def parts_of_thing(things, value):
     """How many parts a VALUE has: of a pair its own and those of both, of all else one."""
-    return value.fields[2] if is_thing(value, "pair") else 1
+    if type(value) is int:
+        return 1
+    form, fields = things[value[1]]
+    return fields[2] if form == "pair" else 1
 
 
-def pair_thing(first, second):
-    """The pair of two VALUEs."""
-    return Thing("pair", (first, second, 1 + parts_of_thing(first) + parts_of_thing(second)))
-
-
-def told_thing(value):
+def told_thing(things, value):
     """What is told of a VALUE."""
     if type(value) is int:
         return value
-    if value.form == "pair":
+    form, fields = things[value[1]]
+    if form == "pair":
         # Pairs are never so large that calls within calls would be many.
-        return (told_thing(value.fields[0]), told_thing(value.fields[1]))
+        return (told_thing(things, fields[0]), told_thing(things, fields[1]))
     return "fun"
 
 
-def thing_of(answer):
-    """The VALUE of an answer from without: a number, or a pair of such."""
-    if type(answer) is tuple:
-        return pair_thing(thing_of(answer[0]), thing_of(answer[1]))
-    return answer
+def thing_of(things, answer):
+    """The VALUE of an answer from without: a number, or a pair of such, which is made."""
+    if type(answer) is not tuple:
+        return answer
+    first, second = thing_of(things, answer[0]), thing_of(things, answer[1])
+    parts = 1 + parts_of_thing(things, first) + parts_of_thing(things, second)
+    return make_thing(things, "pair", (first, second, parts))
