@@ -15,21 +15,32 @@ from handledeeds.things import told_thing
 
 def do_rows(state, steps):
     """Do at most so many rows: how many were done."""
-    if state.status is not None:
+    if state.status is not None or steps <= 0:
         return 0
     rows, stack, at = state.rows, state.stack, state.at
-    done = 0
-    while done < steps:
+    for done in range(steps):
         row = rows[at]
+        if row[0] == "get":
+            # A third of all rows that are done: no call is spent on these.
+            stack.append(state.scope[-1 - row[1]])
+            at += 1
+            continue
         action = ACTIONS[row[0]]
         behind = action(state, row, at, stack)
         if behind is None:
-            if state.status[0] == "asks":
-                at += 1
-            if state.status[0] in ("asks", "done"):
-                done += 1
-            break
+            return stopped(state, at, done)
         at = behind
+    state.at = at
+    state.rows_done += steps
+    return steps
+
+
+def stopped(state, at, done):
+    """No row can be done behind the one at a number, so many being done ahead of it: how many are."""
+    word = state.status[0]
+    if word == "asks":
+        at += 1
+    if word == "asks" or word == "done":
         done += 1
     state.at = at
     state.rows_done += done
@@ -51,11 +62,6 @@ def num_row(state, row, at, stack):
     return at + 1
 
 
-def get_row(state, row, at, stack):
-    stack.append(state.scope[-1 - row[1]])
-    return at + 1
-
-
 def fun_row(state, row, at, stack):
     stack.append(make_thing(state.things, row[0], (at + 1, state.scope)))
     return row[1]
@@ -72,11 +78,10 @@ def unname_row(state, row, at, stack):
 
 
 def op_row(state, row, at, stack):
-    first, second = stack[-2:]
-    if type(first) is not int or type(second) is not int:
+    if type(stack[-1]) is not int or type(stack[-2]) is not int:
         return stuck(state, "number")
-    stack.pop()
-    stack[-1] = reckoned(row[1], first, second)
+    second = stack.pop()
+    stack[-1] = reckoned(row[1], stack[-1], second)
     return at + 1
 
 
@@ -109,27 +114,28 @@ def side_row(state, row, at, stack):
 
 
 def call_row(state, row, at, stack):
-    called, value = stack[-2:]
-    form = form_of(state.things, called)
-    if form == "num" or form == "pair":
+    called = stack[-2]
+    if type(called) is int:
+        return stuck(state, "call")
+    form, fields = state.things[called[1]]
+    if form == "pair":
         return stuck(state, "call")
     if form == "held":
-        return call_of_kept(state, called, value, at)
+        return call_of_kept(state, called, at)
     if state.is_full():
         return too_long(state)
     state.calls += 1
-    stack.pop()
+    value = stack.pop()
     stack[-1] = ("back", at + 1, state.scope)
-    begin, scope = state.things[called[1]][1]
-    state.scope = (*scope, value) if form == "fun" else (*scope, called, value)
-    return begin
+    state.scope = (*fields[1], value) if form == "fun" else (*fields[1], called, value)
+    return fields[0]
 
 
-def call_of_kept(state, held, value, at):
+def call_of_kept(state, held, at):
     """What is kept is called."""
     if state.is_worn():
         return too_long(state)
-    state.stack.pop()
+    value = state.stack.pop()
     state.stack[-1] = ("back", at + 1, state.scope)
     state.moves += len(state.things[held[1]][1][1])
     return state.go_on(held, value)
@@ -281,7 +287,6 @@ def end_row(state, row, at, stack):
 
 ACTIONS = {
     "num": num_row,
-    "get": get_row,
     "fun": fun_row,
     "rec": fun_row,
     "call": call_row,

@@ -126,7 +126,7 @@ def free_keys(term):
                 found.append(part[1])
         elif word in BINDERS:
             waiting.extend([(within, bound + more) for within, more in zip(inner(part), bindings(part))])
-        else:
+        elif word != "num":
             found.extend([key for key in uses(part) if key not in bound])
             waiting.extend([(within, bound) for within in inner(part)])
     return found

@@ -22,19 +22,17 @@ class TreeRun:
 
     def step(self):
         """Do a step: True; False where none can be."""
-        state = self._state
-        find_step(state)
-        if state.status != GOING:
+        if not find_step(self._state):
             return False
-        do_step(state)
+        do_step(self._state)
         # So that it's known at once where no further step can be.
-        find_step(state)
+        find_step(self._state)
         return True
 
     def run(self):
         """Do steps till none can be: the outcome."""
-        while self.step():
-            pass
+        while find_step(self._state):
+            do_step(self._state)
         return self.outcome()
 
     def outcome(self):

@@ -12,9 +12,6 @@ one. Of other make are
   wards, pairs (U, scope), then the clause.
 """
 
-from handledeeds.shapes import called_key
-from handledeeds.shapes import inner
-from handledeeds.shapes import with_keys
 from handledeeds.values import told_value
 
 GOING = ("going",)
@@ -70,12 +67,12 @@ class TreeState:
     def leave(self, value):
         """The innermost frame comes to this VALUE."""
         self.frames.pop()
-        self.tell(value)
+        self.now = ("value", value)
 
     def become(self, term, scope):
         """The innermost frame comes to this term."""
         self.frames.pop()
-        self.do_term(term, scope)
+        self.now = ("term", term, scope)
 
     def go_on(self, frames, value):
         """What was left to do is gone on with by a VALUE."""
@@ -87,14 +84,3 @@ class TreeState:
         """A deed is asked."""
         self.asks += 1
         self.events.append(("ask", deed, told_value(value)))
-
-    def come_to(self, term, scope):
-        """A term is come to that isn't a VALUE: its first part is next."""
-        told = ()
-        within = scope
-        if term[0] == "under":
-            told = self.unders
-            within = with_keys(scope, (called_key(term[1]),), (told,))
-            self.unders += 1
-        self.frames.append((term[0], term, scope, told))
-        self.do_term(inner(term)[0], within)

@@ -2,10 +2,10 @@
 
 from handledeeds.limits import PAIR_PARTS
 from handledeeds.reckon import reckoned
+from handledeeds.shapes import FIRST_INNER
 from handledeeds.shapes import called_key
 from handledeeds.shapes import clause_deeds
 from handledeeds.shapes import clause_keys
-from handledeeds.shapes import inner
 from handledeeds.shapes import with_keys
 from handledeeds.treestate import GOING
 from handledeeds.treestate import LONG
@@ -13,20 +13,70 @@ from handledeeds.values import pair_of
 from handledeeds.values import parts_of_value
 from handledeeds.values import told_value
 
-# Of these both parts are come to ahead of their step.
-OF_TWO = ("call", "op", "two")
+# Both parts of these, with which they end, are come to ahead of their step.
+OF_TWO = {
+    "call": True,
+    "op": True,
+    "two": True,
+}
+
+# A term of these tells a VALUE as it's come to.
+VALUE_WORDS = {
+    "num": True,
+    "name": True,
+    "fun": True,
+    "rec": True,
+}
 
 
 def find_step(state):
-    """Come to the PLACE of the next step; where none can be, the state tells it."""
-    while state.status == GOING:
-        if state.now[0] == "term":
-            read(state, state.now[1], state.now[2])
-        elif not state.frames:
-            state.status = ("done", told_value(state.now[1]))
-        elif not carried(state, state.frames[-1], state.now[1]):
-            look_ahead(state, state.frames[-1], state.now[1])
-            return
+    """Come to the PLACE of the next step: whether one can be; where none can, the state tells why."""
+    if state.status != GOING:
+        return False
+    frames, now = state.frames, state.now
+    value = come_to(state, now[1], now[2]) if now[0] == "term" else now[1]
+    while frames and frames[-1][0] in OF_TWO:
+        word, term, scope, told = frames[-1]
+        if told == ():
+            frames[-1] = (word, term, scope, (value,))
+            value = come_to(state, term[-1], scope)
+        elif word == "two" and not too_large(told[0], value):
+            frames.pop()
+            value = pair_of(told[0], value)
+        else:
+            break
+    state.tell(value)
+    if not frames:
+        state.status = ("done", told_value(value))
+        return False
+    frame = frames[-1]
+    if frame[0] not in TROUBLE_BY_WORD:
+        return True
+    trouble = TROUBLE_BY_WORD[frame[0]]
+    found = trouble(state, frame, value)
+    if found is not None:
+        state.status = found
+    return found is None
+
+
+def come_to(state, term, scope):
+    """Go on from a term that's come to, into it: to the first VALUE."""
+    word = term[0]
+    while word not in VALUE_WORDS:
+        told = ()
+        within = scope
+        if word == "under":
+            told = state.unders
+            within = {**scope, called_key(term[1]): told}
+            state.unders += 1
+        state.frames.append((word, term, scope, told))
+        scope = within
+        # Its first part, of answerers T.
+        term = term[FIRST_INNER[word] or 2]
+        word = term[0]
+    if word == "name":
+        return scope[term[1]]
+    return term if word == "num" else ("fun", term, scope)
 
 
 def do_step(state):
@@ -34,40 +84,6 @@ def do_step(state):
     frame = state.frames[-1]
     step = STEP_BY_WORD[frame[0]]
     step(state, frame, state.now[1])
-
-
-def look_ahead(state, frame, value):
-    """Where the step of a frame can't be done, the state tells it."""
-    if frame[0] in TROUBLE_BY_WORD:
-        trouble = TROUBLE_BY_WORD[frame[0]]
-        state.status = trouble(state, frame, value)
-
-
-def read(state, term, scope):
-    """Go on from a term that's come to: to its VALUE, or into it."""
-    if term[0] == "num":
-        state.tell(term)
-    elif term[0] == "name":
-        state.tell(scope[term[1]])
-    elif term[0] == "fun" or term[0] == "rec":
-        state.tell(("fun", term, scope))
-    else:
-        state.come_to(term, scope)
-
-
-def carried(state, frame, value):
-    """Whether a VALUE that's told to a frame asks for no step yet: it's carried on then."""
-    if frame[0] not in OF_TWO:
-        return False
-    word, term, scope, told = frame
-    if told == ():
-        state.frames[-1] = (word, term, scope, (value,))
-        state.do_term(inner(term)[1], scope)
-        return True
-    if word != "two" or too_large(told[0], value):
-        return False
-    state.leave(pair_of(told[0], value))
-    return True
 
 
 def too_large(first, second):
@@ -78,11 +94,14 @@ def too_large(first, second):
 def answerer_asked(frames, deed):
     """The number of the frame of the handle that answers a deed, passed ones left out; None of none."""
     passes = 0
-    for at in reversed(range(len(frames))):
-        frame = frames[at]
-        if frame[0] == "past" and frame[1][1] == deed:
-            passes += 1
-        elif frame[0] == "handle" and deed in clause_deeds(frame[1]):
+    at = len(frames)
+    for frame in reversed(frames):
+        at -= 1
+        word = frame[0]
+        if word == "past":
+            if frame[1][1] == deed:
+                passes += 1
+        elif word == "handle" and deed in clause_deeds(frame[1]):
             if passes == 0:
                 return at
             passes -= 1
@@ -91,8 +110,9 @@ def answerer_asked(frames, deed):
 
 def answerer_called(frames, number, deed):
     """The number of the innermost frame of this very under; None where there's none, or it has no such clause."""
-    for at in reversed(range(len(frames))):
-        frame = frames[at]
+    at = len(frames)
+    for frame in reversed(frames):
+        at -= 1
         if frame[0] == "under" and frame[3] == number:
             return at if deed in clause_deeds(frame[1]) else None
     return None
@@ -104,28 +124,28 @@ def askof_answerer(state, frame):
     return answerer_called(state.frames, frame[2][called_key(called)], deed)
 
 
-# What keeps a step from being done: told is what the run comes to by that, or that it goes on.
+# What keeps a step from being done: told is what the run comes to by that, None where nothing does.
 
 
 def full_trouble(state, frame, value):
-    return LONG if state.is_full() else GOING
+    return LONG if state.is_full() else None
 
 
 def worn_trouble(state, frame, value):
-    return LONG if state.is_worn() else GOING
+    return LONG if state.is_worn() else None
 
 
 def call_trouble(state, frame, value):
-    called = frame[3][0]
-    if called[0] == "fun":
+    word = frame[3][0][0]
+    if word == "fun":
         return full_trouble(state, frame, value)
-    if called[0] == "kept":
+    if word == "kept":
         return worn_trouble(state, frame, value)
     return ("stuck", "call")
 
 
 def op_trouble(state, frame, value):
-    return GOING if frame[3][0][0] == "num" and value[0] == "num" else ("stuck", "number")
+    return None if frame[3][0][0] == "num" and value[0] == "num" else ("stuck", "number")
 
 
 def two_trouble(state, frame, value):
@@ -134,11 +154,11 @@ def two_trouble(state, frame, value):
 
 
 def if_trouble(state, frame, value):
-    return GOING if value[0] == "num" else ("stuck", "number")
+    return None if value[0] == "num" else ("stuck", "number")
 
 
 def side_trouble(state, frame, value):
-    return GOING if value[0] == "pair" else ("stuck", "pair")
+    return None if value[0] == "pair" else ("stuck", "pair")
 
 
 def askof_trouble(state, frame, value):
@@ -168,13 +188,15 @@ def call_step(state, frame, value):
         return
     state.calls += 1
     _, term, scope = called
-    handed = [value] if term[0] == "fun" else [called, value]
-    state.do_term(inner(term)[0], with_keys(scope, term[1:-1], handed))
+    if term[0] == "fun":
+        state.do_term(term[2], {**scope, term[1]: value})
+    else:
+        state.do_term(term[3], {**scope, term[1]: called, term[2]: value})
 
 
 def let_step(state, frame, value):
     _, term, scope, _ = frame
-    state.become(term[3], with_keys(scope, term[1:2], [value]))
+    state.become(term[3], {**scope, term[1]: value})
 
 
 def op_step(state, frame, value):
@@ -196,7 +218,8 @@ def same_step(state, frame, value):
 
 def then_step(state, frame, value):
     _, term, scope, _ = frame
-    state.become(term[3][1], with_keys(scope, term[3][:1], [value]))
+    x, then = term[3]
+    state.become(then, {**scope, x: value})
 
 
 def ask_step(state, frame, value):
