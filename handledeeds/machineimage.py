@@ -10,17 +10,17 @@ from handledeeds.things import MARK
 
 def image_of(state):
     """The image of a machine's state: all of it but the rows."""
-    teller = ImageTeller(state.things)
-    scope = teller.told_scope(state.scope)
-    stack = teller.told_stack(tuple(state.stack))
-    still = (scope, stack, teller.told_answerers(state.answerers), tuple(state.pasts))
-    return (*state.head(), still, teller.told_things())
+    (scope, stack, answerers, pasts), things = state.rest()
+    teller = ImageTeller(things)
+    still = (teller.told_scope(scope), teller.told_stack(stack), teller.told_answerers(answerers), pasts)
+    head = state.head()
+    return (*head, still, teller.told_things())
 
 
 def stand_as(state, image):
     """From now on a state is as the one of this image."""
-    state.set_head(*image[:5])
-    state.set_rest(*image[5:])
+    state.take_head(image[:5])
+    state.take_rest(image[5:])
 
 
 class ImageTeller:

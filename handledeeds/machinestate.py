@@ -49,31 +49,30 @@ class MachineState:
     def copied(self):
         """A state of its own that is the same."""
         other = MachineState(self.rows, self.most)
-        other.set_head(*self.head())
-        other.set_rest(*self.rest())
+        other.take_head(self.head())
+        other.take_rest(self.rest())
         return other
 
     def head(self):
-        """What an image tells as it stands: all but the rest, and the rows."""
+        """What it tells of itself that no VALUE stands in, but for the rows."""
         counters = (self.calls, self.asked, self.resumed, self.unders, self.rows_done, self.moves)
         return (self.most, self.at, self.status, counters, tuple(self.events))
 
-    def set_head(self, most, at, status, counters, events):
+    def take_head(self, head):
         """From now on it has this head."""
-        self.most = most
-        self.at = at
-        self.status = status
+        self.most, self.at, self.status, counters, events = head
         self.calls, self.asked, self.resumed, self.unders, self.rows_done, self.moves = counters
         self.events = list(events)
 
     def rest(self):
-        """All that VALUEs stand in, and the things."""
-        return ((self.scope, tuple(self.stack), tuple(self.answerers), tuple(self.pasts)), tuple(self.things))
+        """What it tells beside that: (what VALUEs stand in, the things)."""
+        still = (self.scope, tuple(self.stack), tuple(self.answerers), tuple(self.pasts))
+        return (still, tuple(self.things))
 
-    def set_rest(self, still, things):
+    def take_rest(self, rest):
         """From now on it has this rest."""
-        scope, stack, answerers, pasts = still
-        self.scope = scope
+        still, things = rest
+        self.scope, stack, answerers, pasts = still
         self.stack = list(stack)
         self.answerers = list(answerers)
         self.pasts = list(pasts)
