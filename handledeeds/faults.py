@@ -50,5 +50,6 @@ def fault(part, deeds, around):
         if key not in around:
             return "answerer"
         return "deed" if word == "askof" and part[2] not in around[key] else ""
-    needed = part[1:2] if word == "ask" or word == "past" else clause_deeds(part)
-    return "" if all([deed in deeds for deed in needed]) else "deed"
+    if word == "ask" or word == "past":
+        return "" if part[1] in deeds else "deed"
+    return "" if all([deed in deeds for deed in clause_deeds(part)]) else "deed"

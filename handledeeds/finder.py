@@ -103,7 +103,8 @@ class Finder:
 
     def unite(self, kind, other):
         """Find what makes both kinds the same; Unlike where nothing does."""
-        waiting = self.unite_shown(self.shown(kind), self.shown(other))
+        found = self.kinds
+        waiting = [(kind, other)]
         seen = {}
         while waiting:
             left, right = waiting.pop()
@@ -112,31 +113,30 @@ class Finder:
                 if (left[1], right[1]) in seen:
                     continue
                 seen[(left[1], right[1])] = True
-            waiting.extend(self.unite_shown(self.shown(left), self.shown(right)))
-
-    def unite_shown(self, left, right):
-        """Likewise of what two kinds are shown to be; the pairs within that are to be the same are told."""
-        word = left[0]
-        if word == "any":
-            self.bind(left[1], right)
-            return []
-        if right[0] == "any":
-            self.bind(right[1], left)
-            return []
-        if word != right[0]:
-            raise Unlike()
-        if word == "pair":
-            return [(left[2], right[2]), (left[1], right[1])]
-        if word == "fun":
-            self.unite_rosters(left[2], right[2])
-            return [(left[3], right[3]), (left[1], right[1])]
-        return []
+            while left[0] == "any" and left[1] in found:
+                left = found[left[1]]
+            while right[0] == "any" and right[1] in found:
+                right = found[right[1]]
+            if left[0] == "any":
+                self.bind(left[1], right)
+            elif right[0] == "any":
+                self.bind(right[1], left)
+            elif left[0] != right[0]:
+                raise Unlike()
+            elif left[0] == "pair":
+                waiting.extend([(left[2], right[2]), (left[1], right[1])])
+            elif left[0] == "fun":
+                self.unite_rosters(left[2], right[2])
+                waiting.extend([(left[3], right[3]), (left[1], right[1])])
 
     def bind(self, number, kind):
         """The open kind of a number is found to be another one; Unlike where it would be within itself."""
-        if kind == ("any", number):
+        if kind[0] == "any":
+            # Nothing is found of this one.
+            if kind[1] != number:
+                self.kinds[number] = kind
             return
-        if self.stands_in(number, kind):
+        if kind != "number" and self.stands_in(number, kind):
             raise Unlike()
         self.kinds[number] = kind
 

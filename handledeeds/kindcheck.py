@@ -28,14 +28,29 @@ def label_of(place, deed):
 
 def shows_kinds(term, sheet, thing, *, known=()):
     """Whether a thing is a paper of a term's kinds, this or any other."""
-    if type(thing) is not list:
+    if type(thing) is not list or not are_triples(thing):
         return False
     checker = Checker(sheet, thing)
     try:
-        walk(checker, checker.enter((), term, known_around(known), None))
+        walk(checker, term, known_around(known))
     except Unlike:
         return False
     return checker.entered == len(thing)
+
+
+def are_triples(things):
+    """Whether these are triples, each of a tuple of numbers, of anything, and of what's shaped as a ROSTER is."""
+    for triple in things:
+        if type(triple) is not tuple or len(triple) != 3 or type(triple[0]) is not tuple:
+            return False
+        roster = triple[2]
+        if type(roster) is not tuple or len(roster) != 2 or type(roster[0]) is not tuple:
+            return False
+        if roster[1] is not None and (type(roster[1]) is not int or roster[1] < 0):
+            return False
+    if [step for place, _, _ in things for step in place if type(step) is not int]:
+        return False
+    return not [label for _, _, (row, _) in things for label in row if type(label) is not str]
 
 
 class Checker:
@@ -52,21 +67,23 @@ class Checker:
 
     def enter(self, place, form, around, roster):
         """The Node of a PLACE by the paper, its ROSTER this one, or any where that's None; Unlike."""
-        if self.entered == len(self.paper) or form[0] in NEEDY and fault(form, self.deed_kinds, around) != "":
+        word = form[0]
+        if self.entered == len(self.paper) or word in NEEDY and fault(form, self.deed_kinds, around) != "":
             raise Unlike()
-        triple = self.paper[self.entered]
+        shown_place, kind, shown_roster = self.paper[self.entered]
         self.entered += 1
-        if type(triple) is not tuple or len(triple) != 3 or not is_place(triple[0], place):
+        if shown_place != place or roster is not None and shown_roster != roster:
             raise Unlike()
-        _, kind, shown_roster = triple
-        if not is_roster_shape(shown_roster) or roster is not None and roster != shown_roster:
-            raise Unlike()
-        self.check_row(shown_roster[0])
+        if roster is None:
+            self.check_row(shown_roster[0])
         if type(kind) is not str or kind != "number":
             self.check_kind(kind)
         # What's within a fun or a rec is asked for as its parts are entered, ahead of its rule.
-        if (form[0] == "fun" or form[0] == "rec") and kind[0] != "fun":
+        if (word == "fun" or word == "rec") and kind[0] != "fun" or word == "num" and kind != "number":
             raise Unlike()
+        if word == "name":
+            meaning = around[form[1]]
+            self.check_use(kind, *meaning)
         return Node(place, form, around, kind, shown_roster)
 
     def check_kind(self, thing):
@@ -76,6 +93,8 @@ class Checker:
         while waiting:
             part = waiting.pop()
             parts += 1
+            if type(part) is str and part == "number":
+                continue
             if not is_kind_shape(part):
                 raise Unlike()
             if part[0] == "pair":
@@ -127,17 +146,16 @@ class Checker:
             raise Unlike()
         self.same(node.kind, kind[1] if side == "first" else kind[2])
 
-    def settle_use(self, node, meaning):
-        """The KIND of a node is that of a name, with something put in for what may be something else."""
-        named, free_kinds, free_tails = meaning
+    def check_use(self, kind, named, free_kinds, free_tails):
+        """A kind is that of a name, with something put in for what may be something else; Unlike."""
         if not free_kinds and not free_tails:
-            self.same(node.kind, named)
+            self.same(kind, named)
             return
         kinds, tails = opens_of(named)
         # All else that's open stays as it is.
         put_kinds = {n: ("any", n) for n in kinds if n not in free_kinds}
         put_tails = {n: ((), n) for n in tails if n not in free_tails}
-        if not finds(named, node.kind, put_kinds, put_tails):
+        if not finds(named, kind, put_kinds, put_tails):
             raise Unlike()
 
     def has_label(self, roster, label):
@@ -155,17 +173,6 @@ class Checker:
     def labels(self, parts):
         """The list of all LABELs that stand in these."""
         return labels_in(heads_in(parts))
-
-
-def is_place(thing, place):
-    """Whether a thing is this PLACE."""
-    # True is 1 to Python, but no number of a PLACE.
-    if type(thing) is not tuple:
-        return False
-    for step in thing:
-        if type(step) is not int:
-            return False
-    return thing == place
 
 
 def heads_in(parts):

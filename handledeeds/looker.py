@@ -23,7 +23,7 @@ def looked(term, sheet, known):
     looker = Looker(sheet)
     around = known_around(looker.own(known)) if known else {}
     try:
-        walk(looker, looker.enter((), term, around, None))
+        walk(looker, term, around)
     except Clash as clash:
         # What isn't there is told first, also where it's behind the PLACE at which the look ended.
         wrong = first_fault(term, sheet, known) if clash.why in ("kinds", "out") else None
@@ -53,14 +53,23 @@ class Looker:
     def enter(self, place, form, around, roster):
         """The Node of a PLACE, its ROSTER a new one where it's None; Clash where something isn't there."""
         word = form[0]
-        why = fault(form, self.deed_kinds, around) if word in NEEDY else ""
-        if why != "":
-            raise Clash(place, why)
         kind = None
-        if word == "fun" or word == "rec":
+        if word == "name":
+            if form[1] not in around:
+                raise Clash(place, "name")
+            # Something new for all that may be something else.
+            meaning = around[form[1]]
+            kind = self.renewed(*meaning)
+        elif word == "num":
+            kind = "number"
+        elif word == "fun" or word == "rec":
             kind = ("fun", self.found.make_kind(), self.found.make_tail(), self.found.make_kind())
-        elif word == "handle" or word == "under":
-            kind = self.found.make_kind()
+        elif word in NEEDY:
+            why = fault(form, self.deed_kinds, around)
+            if why != "":
+                raise Clash(place, why)
+            if word == "handle" or word == "under":
+                kind = self.found.make_kind()
         if roster is None:
             roster = self.found.make_tail()
         node = Node(place, form, around, kind, roster)
@@ -98,10 +107,6 @@ class Looker:
         part = self.wanted(node)
         other = self.found.make_kind()
         self.found.unite(kind, ("pair", part, other) if side == "first" else ("pair", other, part))
-
-    def settle_use(self, node, meaning):
-        """The KIND of a node is that of a name, with something new for all that may be something else."""
-        self.settle(node, self.renewed(*meaning))
 
     def has_label(self, roster, label):
         """A roster has a label."""

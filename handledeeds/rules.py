@@ -14,6 +14,12 @@ from handledeeds.shapes import clause_deeds
 from handledeeds.shapes import inner
 from handledeeds.shapes import is_called_key
 
+# These have no parts. A judge keeps their rules as it enters them.
+LEAVES = {
+    "num": True,
+    "name": True,
+}
+
 # Around all parts of these stands what stands around the whole, and they have its ROSTER.
 PLAIN = {
     "call": True,
@@ -37,32 +43,35 @@ class Node:
         self.place = place
         self.form = form
         self.word = form[0]
-        self.parts = inner(form)
         self.around = around
         self.kind = kind
         self.roster = roster
         self.within = []
 
 
-def walk(judge, top):
-    """Have the judge enter each PLACE ahead of those within it, and leave it behind them."""
-    path = [top]
+def walk(judge, term, around):
+    """Have the judge enter each PLACE of a term ahead of those within it, and leave it behind them."""
+    path = [(judge.enter((), term, around, None), inner(term))]
     while path:
-        node = path[-1]
-        at = len(node.within)
-        if at == len(node.parts):
-            judge.leave(node)
-            path.pop()
-            continue
+        node, parts = path[-1]
         around, roster = node.around, node.roster
-        if node.word not in PLAIN:
-            around, roster = part_around(judge, node, at), part_roster(node, at)
-        part = judge.enter((*node.place, at), node.parts[at], around, roster)
-        node.within.append(part)
-        if part.parts:
-            path.append(part)
+        plain = node.word in PLAIN
+        at = len(node.within)
+        many = len(parts)
+        while at < many:
+            form = parts[at]
+            if not plain:
+                around, roster = part_setting(judge, node, at)
+            part = judge.enter(node.place + (at,), form, around, roster)
+            node.within.append(part)
+            at += 1
+            if form[0] not in LEAVES:
+                path.append((part, inner(form)))
+                break
         else:
-            judge.leave(part)
+            path.pop()
+            if node.word not in LEAVES:
+                judge.leave(node)
 
 
 def known_around(known):
@@ -70,28 +79,31 @@ def known_around(known):
     return {name: (kind, *opens_of(kind)) for name, kind in known}
 
 
-def part_around(judge, node, at):
-    """What stands around a part of a node, the parts ahead of it being left."""
-    word = node.word
-    form = node.form
+def part_setting(judge, node, at):
+    """What stands around a part of a node, the parts ahead of it being left, and its ROSTER, None where that's new."""
+    word, form, around = node.word, node.form, node.around
+    if word == "let":
+        return ({**around, form[1]: let_meaning(judge, node)} if at == 1 else around, node.roster)
     if word == "fun":
-        return {**node.around, form[1]: fixed(node.kind[1])}
+        return ({**around, form[1]: fixed(node.kind[1])}, node.kind[2])
     if word == "rec":
-        return {**node.around, form[1]: fixed(node.kind), form[2]: fixed(node.kind[1])}
-    if word == "let" and at == 1:
-        return {**node.around, form[1]: let_meaning(judge, node)}
-    if word == "under" and at == 0:
-        return {**node.around, called_key(form[1]): dict(zip(clause_deeds(form), clause_labels(node)))}
-    if at == 0 or word == "ward":
-        return node.around
+        return ({**around, form[1]: fixed(node.kind), form[2]: fixed(node.kind[1])}, node.kind[2])
+    if word == "past" or word == "pastof":
+        return (around, None)
+    if word == "ward":
+        return (around, node.roster if at == 0 else ((), None))
+    if at > 0:
+        return (answer_around(judge, node, at), node.roster)
+    if word == "under":
+        around = {**around, called_key(form[1]): dict(zip(clause_deeds(form), clause_labels(node)))}
+    return (around, with_more(node.roster, clause_labels(node)))
+
+
+def answer_around(judge, node, at):
+    """What stands around U, or V of a clause, of a node, an answerer."""
     if at == 1:
-        return {**node.around, form[3][0]: fixed(node.within[0].kind)}
-    return clause_around(judge, node, form[4][at - 2])
-
-
-def clause_around(judge, node, clause):
-    """What stands around V of a clause of a node, an answerer."""
-    deed, how, x, k, _ = clause
+        return {**node.around, node.form[3][0]: fixed(node.within[0].kind)}
+    deed, how, x, k, _ = node.form[4][at - 2]
     handed, answered = judge.deed_kinds[deed]
     if how != "many":
         return {**node.around, x: fixed(handed)}
@@ -130,20 +142,6 @@ def held(judge, node):
     return (kinds, tails)
 
 
-def part_roster(node, at):
-    """The ROSTER of a part of a node; None where that's a new one."""
-    word = node.word
-    if word == "fun" or word == "rec":
-        return node.kind[2]
-    if word == "past" or word == "pastof":
-        return None
-    if word == "ward" and at == 1:
-        return ((), None)
-    if (word == "handle" or word == "under") and at == 0:
-        return with_more(node.roster, clause_labels(node))
-    return node.roster
-
-
 def with_more(roster, labels):
     """The ROSTER with these labels more."""
     return (joined(roster[0], labels), roster[1])
@@ -159,14 +157,6 @@ def clause_labels(node):
 
 # The rules of a PLACE itself, its parts being left: what's asked of the judge, in this order. A judge
 # keeps that of RULES, by the word of the node, as it leaves it, and asks of an under whether it's let_out.
-
-
-def num_rule(judge, node):
-    judge.settle(node, "number")
-
-
-def name_rule(judge, node):
-    judge.settle_use(node, node.around[node.form[1]])
 
 
 def fun_rule(judge, node):
@@ -250,8 +240,6 @@ def ward_rule(judge, node):
 
 
 RULES = {
-    "num": num_rule,
-    "name": name_rule,
     "fun": fun_rule,
     "rec": fun_rule,
     "call": call_rule,

@@ -13,16 +13,28 @@ class Settler:
         self.kinds = {}
         self.tails = {}
         self.rosters = {}
+        # What was told of open kinds, by these numbers: all in it is numbered, so that it stays.
+        self.told_kinds = {}
 
     def settled_kind(self, kind):
         """A KIND with all that's found put in, numbered anew."""
-        kind = self.found.shown(kind)
         if kind == "number":
             return kind
+        if kind[0] != "any":
+            return self.settled_whole(kind)
+        if kind[1] not in self.told_kinds:
+            self.told_kinds[kind[1]] = self.settled_whole(kind)
+        return self.told_kinds[kind[1]]
+
+    def settled_whole(self, kind):
+        """Likewise, from the first part to the last one."""
+        found = self.found.kinds
         heads = []
         waiting = [kind]
         while waiting:
-            part = self.found.shown(waiting.pop())
+            part = waiting.pop()
+            while part[0] == "any" and part[1] in found:
+                part = found[part[1]]
             word = part[0]
             if word == "pair" or word == "fun":
                 heads.append(word)
