@@ -3,6 +3,8 @@
 import unittest
 
 from handledeeds.machine import Machine, machine_of
+from handledeeds.machineimage import alike_so_far
+from handledeeds.quick import slowed
 from handledeeds.rows import rows_of
 from handledeeds.termtext import term_in
 from tests.chance import Maker
@@ -25,12 +27,32 @@ MANY = [
 
 TEXTS = [*MANY, *[text for text, _, _, _ in RUNS]]
 
+# What is kept holds, again and again, what was kept before, and somewhat more.
+GROWING = [
+    "deep call rec f x if x let y ask get x plus y call f less x 1 0 12 x x 1 many get u k plus call k u 1",
+    "under h call rec f x if x let y askof h put x plus y call f less x 1 0 9 x x 2 quick get u u many put u k call k u",
+    "deep deep call rec f x if x let y ask get ask put x plus y call f less x 1 0 7 x x 1 many put u k call k u x x 1 many get u k call k u",
+    "call deep call rec f x if x let y let z ask get x ask put z plus y call f less x 1 0 6 x fun s x 2 "
+    "many get u k fun s call call k s s many put v k fun s call call k 0 v 5",
+    "shallow call rec f x if x let y ask put x two y ward call f less x 1 x 0 5 x x 1 many put u k "
+    "shallow call k u x x 1 many put u k two call k 1 k",
+]
+
 
 def is_plain(thing):
     """Whether it's made of numbers, texts, None and tuples alone."""
     if type(thing) is tuple:
         return all([is_plain(part) for part in thing])
     return thing is None or type(thing) in (int, str)
+
+
+def mentioned(thing):
+    """The numbers of all things that are mentioned, one behind the other."""
+    if type(thing) is tuple and len(thing) == 2 and thing[0] == "*":
+        yield thing[1]
+    elif type(thing) is tuple:
+        for part in thing:
+            yield from mentioned(part)
 
 
 def state(machine):
@@ -118,6 +140,61 @@ class ImageTest(unittest.TestCase):
         image = machine.image()
         self.assertLess(len(repr(image)), 100000)
         self.assertEqual(machine_of(rows_of(term_in("call rec f p call f let z p fun y two z p 0")), image).image(), image)
+
+    def test_what_is_kept_again_and_again(self):
+        for text in GROWING:
+            for term in (term_in(text), slowed(term_in(text))):
+                rows = rows_of(term)
+                images = self.follow(rows)
+                # Cut elsewhere, and gone on with from images or not, it has the same ones.
+                for steps in (2, 3, 7):
+                    machine = Machine(rows)
+                    while machine.go(steps=steps) == steps:
+                        self.assertEqual(machine.image(), images[machine.steps()])
+                        machine = machine_of(rows, eval(repr(machine.image()))) if machine.steps() % 2 else machine
+
+    def test_each_thing_that_is_mentioned_is_told_once_in_the_order_of_mentions(self):
+        for text in [*TEXTS, *GROWING]:
+            machine = machine_for(text)
+            while forward(machine):
+                image = machine.image()
+                numbers = list(mentioned(image))
+                firsts = [number for at, number in enumerate(numbers) if number not in numbers[:at]]
+                self.assertEqual(firsts, list(range(len(image[-1]))))
+
+    def test_what_is_mentioned_no_more_is_not_told(self):
+        rows = rows_of(term_in("let x ask get 1 let x two fun y y 2 let x 0 7"))
+        one, other = Machine(rows), Machine(rows)
+        for machine, told in ((one, ((1, 2), 3)), (other, (4, 5))):
+            machine.run()
+            machine.answer(told)
+        self.assertFalse(one == other)
+        self.assertNotEqual(one.image(), other.image())
+        ones, others = one.like(), other.like()
+        for machine in (one, other, ones, others):
+            self.assertEqual(machine.run(), ("done", 7))
+        # Told or not told, and of whichever others were made: nothing but 7 is left.
+        self.assertTrue(one == other and ones == others and one == others and others == one)
+        self.assertEqual(ones.image(), other.image())
+        self.assertTrue(one == other and ones == others and one == others and others == one)
+
+    def test_an_image_is_of_what_was_done_last(self):
+        machine = machine_for("plus ask get 1 plus 2 3")
+        images = [machine.image()]
+        for done in (lambda: machine.go(steps=1), machine.run, lambda: machine.answer(4), lambda: machine.go(steps=1), machine.run):
+            done()
+            images.append(machine.image())
+            self.assertEqual(machine_of(rows_of(term_in("plus ask get 1 plus 2 3")), images[-1]).run(), machine.like().run())
+        self.assertEqual(len(set(images)), len(images))
+        machine.go()
+        self.assertEqual(machine.image(), images[-1])
+
+    def test_how_far_rows_are_alike(self):
+        rows = [tuple(f"{number:b}") for number in range(1, 64)] + [()]
+        for row in rows:
+            for other in rows:
+                far = [at for at in range(8) if at <= len(row) and row[:at] == other[:at]][-1]
+                self.assertEqual(alike_so_far(row, other), min(far, len(other)), (row, other))
 
     def test_what_is_kept_within_what_is_kept_is_told_flat(self):
         text = "call rec f n if n deep call f less n 1 x x 1 quick get u ask get plus u 1 ask get 1 80"
